@@ -1,0 +1,1 @@
+"""Flagfree: words that are never sent, at the least price whatever the contents."""

@@ -1,0 +1,115 @@
+"""Settings: bars, a menu, prices and a start."""
+
+from flagfree.bars import Bars, ends_of, take_bars
+from flagfree.cursor import Cursor
+from flagfree.errors import BadEnd, BadMove, BadSetting, NoEnd
+from flagfree.menus import Menu, take_moves
+from flagfree.moves import Move, Put
+from flagfree.prices import Prices, take_prices
+from flagfree.signs import exchanged, is_exchange
+
+
+def told_outcomes(bars, end, move):
+    """The outcomes of a move of the alphabet at an end of the bars."""
+    pairs = [(None, move.sign)] if isinstance(move, Put) else list(move.words)
+    return tuple([(sign, text, bars.behind(end, text)) for sign, text in pairs])
+
+
+def take_alphabet(cursor, signs):
+    """Take the alphabet that the bars of a setting have, and the colon behind it."""
+    cursor.expect(signs)
+    cursor.expect(":")
+
+
+def take_start(cursor, words):
+    """Take the start of a setting with these barred words."""
+    ends = ends_of(words)
+    if cursor.peek() == "-":
+        cursor.take(True)
+        return ""
+    return cursor.take(cursor.peek() != "" and cursor.peek() in ends)
+
+
+class Setting:
+    """What may not be sent, which moves there are, what signs cost and weigh, where the text begins."""
+
+    def __init__(self, bars, menu=None, prices=None, start=""):
+        if not isinstance(bars, Bars):
+            raise BadSetting("bars")
+        if menu is not None and (not isinstance(menu, Menu) or menu.signs != bars.signs):
+            raise BadSetting("menu")
+        if prices is not None and (not isinstance(prices, Prices) or prices.signs != bars.signs):
+            raise BadSetting("prices")
+        if start not in bars.ends:
+            raise BadEnd(start)
+        self.bars = bars
+        self.menu = Menu.plain(bars.signs) if menu is None else menu
+        self.prices = Prices(bars.signs) if prices is None else prices
+        self.start = start
+
+    @classmethod
+    def read(cls, text):
+        """The Setting with this text."""
+        cursor = Cursor(text)
+        signs, words = take_bars(cursor)
+        cursor.expect("/")
+        take_alphabet(cursor, signs)
+        moves = take_moves(cursor, signs)
+        cursor.expect("/")
+        take_alphabet(cursor, signs)
+        prices = take_prices(cursor, signs)
+        cursor.expect("/")
+        start = take_start(cursor, words)
+        cursor.finish()
+        # Only now may the classes refuse what was read: a wrong word is told ahead of it.
+        bars = Bars(signs, *words)
+        return Setting(bars, Menu(signs, *moves), prices, start)
+
+    def __str__(self):
+        return " / ".join([str(self.bars), str(self.menu), str(self.prices), self.start or "-"])
+
+    def __eq__(self, other):
+        if not isinstance(other, Setting) or self.start != other.start:
+            return False
+        return self.bars == other.bars and self.menu == other.menu and self.prices == other.prices
+
+    def outcomes(self, end, move):
+        """The triples (content sign, text, end behind) of a move at an end."""
+        if end not in self.bars.ends:
+            raise NoEnd(end)
+        if not isinstance(move, Move) or not move.is_of(self.bars.signs):
+            raise BadMove("menu")
+        return told_outcomes(self.bars, end, move)
+
+    def is_fit(self, end, move):
+        """Whether no outcome of a move at an end completes a barred word."""
+        return all([behind is not None for _, _, behind in self.outcomes(end, move)])
+
+    def let(self, end):
+        """The moves of the menu that are fit at an end."""
+        if end not in self.bars.ends:
+            raise NoEnd(end)
+        return tuple([move for move in self.menu.moves if self.is_fit(end, move)])
+
+    def with_bars(self, bars):
+        """The setting with other bars."""
+        return Setting(bars, self.menu, self.prices, self.start)
+
+    def with_menu(self, menu):
+        """The setting with another menu."""
+        return Setting(self.bars, menu, self.prices, self.start)
+
+    def with_prices(self, prices):
+        """The setting with other prices."""
+        return Setting(self.bars, self.menu, prices, self.start)
+
+    def with_start(self, start):
+        """The setting with another start."""
+        return Setting(self.bars, self.menu, self.prices, start)
+
+    def changed(self, table):
+        """The setting with each sign exchanged everywhere."""
+        if not is_exchange(table, self.bars.signs):
+            raise BadSetting("table")
+        return Setting(self.bars.changed(table), self.menu.changed(table), self.prices.changed(table),
+                       exchanged(self.start, table))
