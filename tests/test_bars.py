@@ -31,9 +31,9 @@ class BarsTest(unittest.TestCase):
 
     def test_attributes(self):
         bars = Bars("01", "111", "00")
-        self.assertEqual(vars(bars)["signs"], "01")
-        self.assertEqual(vars(bars)["words"], ("00", "111"))
-        self.assertEqual(vars(bars)["ends"], ("", "0", "1", "11"))
+        self.assertEqual(bars.signs, "01")
+        self.assertEqual(bars.words, ("00", "111"))
+        self.assertEqual(bars.ends, ("", "0", "1", "11"))
 
     def test_without_words(self):
         bars = Bars("01")

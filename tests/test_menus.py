@@ -31,11 +31,10 @@ class MenuTest(unittest.TestCase):
 
     def test_attributes(self):
         menu = Menu("01", Put("1"), TURNED, Put("0"), PLAIN)
-        kept = vars(menu)
-        self.assertEqual(kept["signs"], "01")
-        self.assertTrue(same(kept["codes"], (TURNED, PLAIN)))
-        self.assertTrue(same(kept["puts"], (Put("0"), Put("1"))))
-        self.assertTrue(same(kept["moves"], (TURNED, PLAIN, Put("0"), Put("1"))))
+        self.assertEqual(menu.signs, "01")
+        self.assertTrue(same(menu.codes, (TURNED, PLAIN)))
+        self.assertTrue(same(menu.puts, (Put("0"), Put("1"))))
+        self.assertTrue(same(menu.moves, (TURNED, PLAIN, Put("0"), Put("1"))))
         self.assertEqual((len(menu), bool(menu)), (4, True))
         self.assertTrue(same(list(menu), [TURNED, PLAIN, Put("0"), Put("1")]))
 

@@ -23,7 +23,7 @@ class PutTest(unittest.TestCase):
     def test_signs(self):
         for sign in SIGNS:
             put = Put(sign)
-            self.assertEqual(vars(put)["sign"], sign)
+            self.assertEqual(put.sign, sign)
             self.assertEqual(str(put), "put " + sign)
         self.assertEqual(Put(sign="0"), Put("0"))
         self.assertIsInstance(Put("0"), Move)
@@ -66,7 +66,7 @@ class CodeTest(unittest.TestCase):
 
     def test_words_ascend(self):
         code = Code({"x": "xx", "e": "xa", "a": "a"})
-        self.assertTrue(same(vars(code)["words"], (("a", "a"), ("e", "xa"), ("x", "xx"))))
+        self.assertTrue(same(code.words, (("a", "a"), ("e", "xa"), ("x", "xx"))))
         self.assertEqual(str(code), "code a a e xa x xx")
         self.assertTrue(same(list(code), [("a", "a"), ("e", "xa"), ("x", "xx")]))
         self.assertEqual((len(code), bool(code)), (3, True))

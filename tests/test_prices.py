@@ -22,7 +22,7 @@ class PricesTest(unittest.TestCase):
 
     def test_told_and_not_told(self):
         prices = Prices("012", {"2": 4, "0": 2}, {"1": 9})
-        self.assertEqual(vars(prices)["signs"], "012")
+        self.assertEqual(prices.signs, "012")
         self.assertTrue(same([prices.price_of(sign) for sign in "012"], [2, 1, 4]))
         self.assertTrue(same([prices.weight_of(sign) for sign in "012"], [1, 9, 1]))
         self.assertEqual(str(prices), "012 : 2 1 4 / 1 9 1")
@@ -197,7 +197,7 @@ class RateTest(unittest.TestCase):
             for weight in range(1, 30):
                 self.check_rate(Rate(price, weight), Fraction(price, weight))
         rate = Rate(12 * 10 ** 28, 10 * 10 ** 28)
-        self.assertEqual((vars(rate)["price"], vars(rate)["weight"]), (6, 5))
+        self.assertEqual((rate.price, rate.weight), (6, 5))
         self.assertEqual((Rate(7).price, Rate(7).weight), (7, 1))
         self.assertEqual(Rate(weight=10, price=12), Rate(6, 5))
 

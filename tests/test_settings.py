@@ -1,4 +1,3 @@
-import random
 import unittest
 
 from common import check_read, check_reads_strings_alone, others, refuses, same, values
@@ -8,7 +7,8 @@ from flagfree.menus import Menu
 from flagfree.moves import Code, Put
 from flagfree.prices import Prices
 from flagfree.settings import Setting
-from oracles import setting_complete, setting_stands, slow_end, texts
+from oracles import setting_complete, setting_stands, slow_end
+from samples import moves_of, some_settings
 
 PLAIN = Code.plain("01")
 LONG = Code({"0": "011", "1": "10"})
@@ -16,42 +16,19 @@ BARS = Bars("01", "111", "000")
 TURN = {"0": "1", "1": "0"}
 
 
-def moves_of(signs):
-    """Some moves of an alphabet."""
-    escape = Code.escape(signs, signs[0], {signs[0]: signs[1]})
-    chosen = Code.chosen(signs, {sign: signs[-1] for sign in signs})
-    return [Code.plain(signs), escape, chosen] + [Put(sign) for sign in signs]
-
-
-def some_settings(many):
-    """Settings of all kinds."""
-    draw = random.Random(13)
-    rows = []
-    while len(rows) < many:
-        signs = draw.choice(["01", "01", "012", "az"])
-        words = [draw.choice(texts(signs, 4)[1:]) for _ in range(draw.randint(0, 4))]
-        bars = Bars(signs, *words)
-        moves = draw.sample(moves_of(signs), draw.randint(0, 3 + len(signs)))
-        prices = Prices(signs, {sign: draw.randint(1, 9) for sign in signs}, {signs[0]: draw.randint(1, 9)})
-        rows.append(Setting(bars, Menu(signs, *moves), prices, draw.choice(bars.ends)))
-    return rows
-
-
 class SettingTest(unittest.TestCase):
 
     def test_none_stands_for(self):
         for setting in (Setting(BARS), Setting(BARS, None, None), Setting(BARS, None, None, ""), Setting(bars=BARS)):
-            kept = vars(setting)
-            self.assertTrue(same(kept["bars"], BARS))
-            self.assertTrue(same(kept["menu"], Menu.plain("01")))
-            self.assertTrue(same(kept["prices"], Prices("01")))
-            self.assertEqual(kept["start"], "")
+            self.assertTrue(same(setting.bars, BARS))
+            self.assertTrue(same(setting.menu, Menu.plain("01")))
+            self.assertTrue(same(setting.prices, Prices("01")))
+            self.assertEqual(setting.start, "")
 
     def test_attributes(self):
         menu, prices = Menu("01", LONG), Prices("01", {"0": 2})
         for setting in (Setting(BARS, menu, prices, "11"), Setting(start="11", prices=prices, menu=menu, bars=BARS)):
-            kept = vars(setting)
-            self.assertEqual((kept["bars"], kept["menu"], kept["prices"], kept["start"]), (BARS, menu, prices, "11"))
+            self.assertEqual((setting.bars, setting.menu, setting.prices, setting.start), (BARS, menu, prices, "11"))
 
     def test_bad_bars(self):
         for value in others(lambda value: isinstance(value, Bars)):
