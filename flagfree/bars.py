@@ -121,10 +121,7 @@ class Bars:
         """The end of a text, None if a barred word stands in it."""
         if holds_some(text, self.words):
             return None
-        for end in self._longest_first:
-            if text.endswith(end):
-                return end
-        return None
+        return [end for end in self._longest_first if text.endswith(end)][0]
 
     def changed(self, table):
         """The bars with each sign exchanged."""

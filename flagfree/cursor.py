@@ -21,7 +21,7 @@ class Cursor:
 
     def take(self, stands):
         """The next word, and on to the one behind it; stands tells whether it can stand here."""
-        if not stands or self.at == len(self.words):
+        if not stands:
             raise BadText(0, self.at)
         self.at = self.at + 1
         return self.words[self.at - 1]

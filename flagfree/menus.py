@@ -68,8 +68,6 @@ class Menu:
     @classmethod
     def plain(cls, signs):
         """The Menu of the plain code and the puts of all signs."""
-        if not is_alphabet(signs):
-            raise BadSigns(signs)
         moves = [Code.plain(signs)] + [Put(sign) for sign in signs]
         return Menu(signs, *moves)
 

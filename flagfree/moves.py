@@ -2,7 +2,7 @@
 
 from flagfree.cursor import Cursor
 from flagfree.errors import BadMove, BadSign, BadSigns, BadWord
-from flagfree.signs import SIGNS, are_unlike, exchanged, is_alphabet, is_sign, is_swap, is_text, is_word
+from flagfree.signs import SIGNS, exchanged, is_alphabet, is_sign, is_swap, is_text, is_word
 
 MOST_SIGNS = 3
 

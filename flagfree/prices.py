@@ -81,9 +81,7 @@ class Prices:
         return " ".join([self.signs, ":", *prices, "/", *weights])
 
     def __eq__(self, other):
-        if not isinstance(other, Prices) or self.signs != other.signs:
-            return False
-        return self._prices == other._prices and self._weights == other._weights
+        return isinstance(other, Prices) and self._prices == other._prices and self._weights == other._weights
 
     def price_of(self, sign):
         """The price of a sign."""
@@ -155,11 +153,6 @@ def less(one, other):
     return Rate(price, one.weight * other.weight)
 
 
-def is_number_text(text):
-    """Whether a string is an integer from 0 as str writes it."""
-    return is_text(text, DIGITS) and text != "" and (text == "0" or text[0] != "0")
-
-
 class Rate:
     """A price by a weight, in lowest terms."""
 
@@ -180,7 +173,7 @@ class Rate:
         price, stroke, weight = text.partition("/")
         if stroke == "":
             weight = "1"
-        if not is_number_text(price) or not is_number_text(weight) or weight == "0":
+        if not is_text(price + weight, DIGITS) or price == "" or weight.strip("0") == "":
             raise BadText(0, 0)
         rate = Rate(int(price), int(weight))
         if str(rate) != text:

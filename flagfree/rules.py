@@ -14,8 +14,6 @@ def end_behind(sent, setting):
     """The end behind all that was sent, from the start of the setting on."""
     if not isinstance(setting, Setting):
         raise BadSetting("setting")
-    if not is_text(sent, setting.bars.signs):
-        raise BadSent(sent)
     end = setting.bars.behind(setting.start, sent)
     if end is None:
         raise BadSent(sent)
@@ -154,7 +152,7 @@ class Table(Rule):
     def _ends_behind(self, end, setting):
         """The ends to which its move leads from an end, by signs ascending."""
         move = self._told.get(end)
-        if move is None or move not in setting.menu or not setting.is_fit(end, move):
+        if move not in setting.menu or not setting.is_fit(end, move):
             raise Stuck(end)
         return [behind for _, _, behind in told_outcomes(setting.bars, end, move)]
 
@@ -172,7 +170,7 @@ class Late(Rule):
 
     def tell(self, sent, end, setting):
         """The latest move at an end, None at a lost one."""
-        if self._setting is None or not self._setting == setting:
+        if not self._setting == setting:
             moves = moves_at(setting, None)
             self._ways = open_ways(moves, lost_ends(moves))
             self._setting = setting

@@ -51,15 +51,29 @@ def moves_at(setting, fixed):
     return found
 
 
-def codes_lose(choices, lost):
+def codes_among(told):
+    """The codes among some moves, each with the list of the ends behind."""
+    return [(move, ends) for move, ends in told if isinstance(move, Code)]
+
+
+def puts_among(told):
+    """The puts among some moves, each with the end behind."""
+    return [(move, ends[0]) for move, ends in told if not isinstance(move, Code)]
+
+
+def is_losing(ends, lost):
+    """Whether some outcome completes a word, or leads to a lost end."""
+    return any([behind is None or behind in lost for behind in ends])
+
+
+def codes_lose(told, lost):
     """Whether each code among some moves completes a word, or leads to a lost end."""
-    return all([any([behind is None or behind in lost for behind in ends])
-                for move, ends in choices if isinstance(move, Code)])
+    return all([is_losing(ends, lost) for _, ends in codes_among(told)])
 
 
-def puts_stay(choices, within):
+def puts_stay(told, within):
     """Whether each put among some moves completes a word, or leads to one of some ends."""
-    return all([ends[0] is None or ends[0] in within for move, ends in choices if not isinstance(move, Code)])
+    return all([behind is None or behind in within for _, behind in puts_among(told)])
 
 
 def lost_within(moves, lost):
@@ -89,8 +103,8 @@ def code_ways(moves, lost):
     """The ways (code, 0) of the open ends at which some code leads to open ends alone."""
     ways = {}
     for end in moves:
-        codes = [move for move, ends in moves[end] if isinstance(move, Code) and not codes_lose([(move, ends)], lost)]
-        if end not in lost and len(codes) > 0:
+        codes = [move for move, ends in codes_among(moves[end]) if not is_losing(ends, lost)]
+        if len(codes) > 0:
             ways[end] = (codes[0], 0)
     return ways
 
@@ -98,14 +112,14 @@ def code_ways(moves, lost):
 def open_ways(moves, lost):
     """The dict from all open ends to their ways: the first such code, or the least put to a nearest end."""
     ways = code_ways(moves, lost)
-    steps = 0
+    distance = 0
     while True:
-        steps = steps + 1
+        distance = distance + 1
         nearer = {}
         for end in moves:
-            puts = [move for move, ends in moves[end] if not isinstance(move, Code) and ends[0] in ways]
-            if end not in lost and end not in ways and len(puts) > 0:
-                nearer[end] = (puts[0], steps)
+            puts = [move for move, behind in puts_among(moves[end]) if behind in ways]
+            if end not in ways and len(puts) > 0:
+                nearer[end] = (puts[0], distance)
         if len(nearer) == 0:
             return ways
         ways = {**ways, **nearer}

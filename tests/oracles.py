@@ -2,6 +2,8 @@
 
 import itertools
 
+from flagfree.moves import Code, Put
+
 SIGNS = "0123456789abcdefghijklmnopqrstuvwxyz"
 
 
@@ -176,3 +178,45 @@ def table_stands(ahead, word):
 
 def table_complete(words):
     return words == ["table"] or move_complete(parted(words, ";")[-1][2:])
+
+
+# Lost ends, by what can be sent from them.
+
+def told_moves(setting, fixed, end):
+    """The moves that count at an end."""
+    return setting.menu.moves if fixed is None or end not in fixed else (fixed[end],)
+
+
+def reached_by_puts(setting, fixed, end):
+    """The ends to which rows of fit puts lead, the end itself among them."""
+    found = [end]
+    for one in found:
+        for move in told_moves(setting, fixed, one):
+            if isinstance(move, Put):
+                behind = setting.outcomes(one, move)[0][2]
+                if behind is not None and behind not in found:
+                    found.append(behind)
+    return found
+
+
+def sendable(setting, fixed, ends):
+    """The ends from which a row of puts and a code come to some ends, whatever the content sign."""
+    found = set()
+    for end in setting.bars.ends:
+        for one in reached_by_puts(setting, fixed, end):
+            for move in told_moves(setting, fixed, one):
+                if isinstance(move, Code) and all(behind in ends for _, _, behind in setting.outcomes(one, move)):
+                    found.add(end)
+    return found
+
+
+def slow_rounds(setting, fixed=None):
+    """The least numbers of signs that cannot be sent from an end, whatever they are."""
+    found = {}
+    ends = set(setting.bars.ends)
+    for n in range(1, len(setting.bars.ends) + 2):
+        ends = sendable(setting, fixed, ends)
+        for end in setting.bars.ends:
+            if end not in ends and end not in found:
+                found[end] = n
+    return found

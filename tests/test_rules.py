@@ -9,9 +9,8 @@ from flagfree.menus import Menu
 from flagfree.moves import Code, Move, Put
 from flagfree.rules import By, Joined, Late, Rule, Table
 from flagfree.settings import Setting
-from oracles import SIGNS, is_text, slow_end, table_complete, table_stands, texts
+from oracles import SIGNS, is_text, slow_end, slow_rounds, table_complete, table_stands, texts
 from samples import some_settings, some_tables
-from test_traps import slow_rounds
 
 PLAIN = Code.plain("01")
 TURNED = Code({"0": "1", "1": "0"})

@@ -103,6 +103,7 @@ class SettingTest(unittest.TestCase):
             refuses(self, NoEnd(value), setting.outcomes, value, 7)
             refuses(self, NoEnd(value), setting.is_fit, value, PLAIN)
             refuses(self, NoEnd(value), setting.let, value)
+            refuses(self, NoEnd(value), setting.with_menu(Menu("01")).let, value)
         for value in others(lambda value: isinstance(value, (Put, Code)) and value.is_of("01")):
             refuses(self, BadMove("menu"), setting.outcomes, "1", value)
             refuses(self, BadMove("menu"), setting.is_fit, "", value)
