@@ -198,7 +198,8 @@ class BarsTest(unittest.TestCase):
         words = ["0001", "0010", "0011", "0100", "0101", "0110", "0111", "1000", "1001"]
         self.assertEqual(Bars("01", *words[:5]) | Bars("01", *words[3:8]), Bars("01", *words[:8]))
         refuses(self, TooMany("words", 8), lambda: Bars("01", *words[:5]) | Bars("01", *words[5:]))
-        refuses(self, TooMany("ends", 24), lambda: Bars("0123", "00000000", "11111111", "22222222") | Bars("0123", "3333"))
+        refuses(self, TooMany("ends", 24),
+                lambda: Bars("0123", "00000000", "11111111", "22222222") | Bars("0123", "3333"))
 
     def test_both_and_less(self):
         one, other = Bars("01", "111", "00", "1010"), Bars("01", "00", "11", "1010")
@@ -269,7 +270,8 @@ class BarsTest(unittest.TestCase):
         for value in others(lambda value: value in fits):
             refuses(self, BadBars("table"), Bars("01", "11").changed, value)
         for value in ({"0": "1", "1": "1"}, {"0": "1"}, {"0": "1", "1": "0", "2": "2"}, {"0": "a", "1": "b"},
-                      {"0": "01", "1": "0"}, {"0": "", "1": "0"}, {"0": 0, "1": 1}, {0: "0", 1: "1"}, {"0": ["1"], "1": "0"}):
+                      {"0": "01", "1": "0"}, {"0": "", "1": "0"}, {"0": 0, "1": 1}, {0: "0", 1: "1"},
+                      {"0": ["1"], "1": "0"}):
             refuses(self, BadBars("table"), Bars("01", "11").changed, value)
 
     def test_str(self):
@@ -283,11 +285,13 @@ class BarsTest(unittest.TestCase):
 
     def test_read_spoilt_texts(self):
         more = ["01", "10", ":", "-", "0", "1", "11", "00000000", "000000000", "012", "", "2", ";", "/", "1\n", "01:"]
-        for text in ("01 : 00 11", "01 : -", "ab : ab ba", "01 : 0000 0101 011 10", "0z : 00 0z0 z", "012 : 02 12 2222"):
+        for text in ("01 : 00 11", "01 : -", "ab : ab ba", "01 : 0000 0101 011 10", "0z : 00 0z0 z",
+                     "012 : 02 12 2222"):
             check_read(self, Bars.read, text.split(" "), more, bars_stands, bars_complete)
 
     def test_read_by_hand(self):
-        for text, word in (("", 0), ("01", 1), ("01 :", 2), ("01 : ", 2), ("01  : 1", 1), (" 01 : 1", 0), ("01 : 1 ", 3),
+        for text, word in (("", 0), ("01", 1), ("01 :", 2), ("01 : ", 2), ("01  : 1", 1), (" 01 : 1", 0),
+                           ("01 : 1 ", 3),
                            ("01 : 1 0", 3), ("01 : 0 01", 3), ("01 : 00 1 10", 4), ("01 : 1 1", 3), ("01 : -1", 2),
                            ("01 : - -", 3), ("10 : 1", 0), ("01 : 000000000", 2), ("01 : 0 1 -", 4), ("01 : 2", 2),
                            ("01 : 1\n", 2), ("01\n: 1", 0), ("01 : 010 1", 3)):

@@ -135,9 +135,11 @@ class CodingTest(unittest.TestCase):
                     refuses(self, BadContent(value), call, Table({}), FIVE, value)
 
     def test_stuck_and_its_cause(self):
-        told = [(Table({"": PLAIN}), "11", "1", NoEnd("1")), (Table({"": PLAIN, "1": Put("2")}), "11", "1", BadMove("menu")),
+        told = [(Table({"": PLAIN}), "11", "1", NoEnd("1")),
+                (Table({"": PLAIN, "1": Put("2")}), "11", "1", BadMove("menu")),
                 (Table({"": Code({"0": "1", "1": "0"})}), "1", "", BadMove("menu")),
-                (Table({"": PLAIN, "1": PLAIN}), "011", "1", None), (Table({"": PLAIN, "1": Put("1")}), "10", "1", None),
+                (Table({"": PLAIN, "1": PLAIN}), "011", "1", None),
+                (Table({"": PLAIN, "1": Put("1")}), "10", "1", None),
                 (Late(), "1", "", NoEnd(""))]
         pair = Setting(Bars("01", "11"))
         for rule, content, end, cause in told:
@@ -295,7 +297,8 @@ class DecodedTest(unittest.TestCase):
 
     def test_refused_amid_a_word(self):
         setting = Setting(Bars("012", "22"), Menu("012", Code({"0": "0", "1": "120", "2": "101"}), Put("0")))
-        for text, at in (("1", 1), ("12", 2), ("122", 2), ("121", 2), ("11", 1), ("2", 0), ("02", 1), ("0100", 3), ("010", 3)):
+        for text, at in (("1", 1), ("12", 2), ("122", 2), ("121", 2), ("11", 1), ("2", 0), ("02", 1), ("0100", 3),
+                         ("010", 3)):
             refuses(self, Refused(at), decoded, Late(), setting, text)
             self.assertIs(is_coding(Late(), setting, text), False)
         self.assertEqual(decoded(Late(), setting, "0120101"), "012")

@@ -178,7 +178,8 @@ class MenuTest(unittest.TestCase):
     def test_changed(self):
         menu = Menu("012", Code({"0": "0", "1": "10", "2": "2"}), Code.plain("012"), Put("0"), Put("2"))
         found = menu.changed({"0": "2", "1": "0", "2": "1"})
-        self.assertTrue(same(found.moves, (Code({"2": "2", "0": "02", "1": "1"}), Code.plain("012"), Put("1"), Put("2"))))
+        self.assertTrue(same(found.moves,
+                             (Code({"2": "2", "0": "02", "1": "1"}), Code.plain("012"), Put("1"), Put("2"))))
         fits = ({"0": "1", "1": "0"}, {"0": "0", "1": "1"})
         for value in others(lambda value: value in fits):
             refuses(self, BadMenu("table"), Menu.plain("01").changed, value)
@@ -207,10 +208,13 @@ class ReadTest(unittest.TestCase):
 
     def test_by_hand(self):
         for text, word in (("", 0), ("01", 1), ("01 :", 2), ("01 : put", 3), ("01 : put 2", 3), ("01 : put 0 ;", 5),
-                           ("01 : put 1 ;", 5), ("01 : put 1 ; put", 6), ("01 : put 1 ; put 0", 6), ("01 : put 0 ; code", 5),
-                           ("01 : put 1 ; put 1", 6), ("01 : code 0 0", 5), ("01 : code 1 1", 3), ("01 : code 0 0 1 0", 6),
+                           ("01 : put 1 ;", 5), ("01 : put 1 ; put", 6), ("01 : put 1 ; put 0", 6),
+                           ("01 : put 0 ; code", 5),
+                           ("01 : put 1 ; put 1", 6), ("01 : code 0 0", 5), ("01 : code 1 1", 3),
+                           ("01 : code 0 0 1 0", 6),
                            ("01 : code 0 0 2 1", 5), ("01 : code 0 2", 4), ("01 : code 0 0 1 1 ;", 8), ("01 : - ;", 3),
-                           ("01 : code 0 0 1 1 put 0", 7), ("01 : put 0 put 1", 4), ("01 : ;", 2), ("01 : put 0 ; -", 5),
+                           ("01 : code 0 0 1 1 put 0", 7), ("01 : put 0 put 1", 4), ("01 : ;", 2),
+                           ("01 : put 0 ; -", 5),
                            ("01 : put 0 ", 4), ("10 : -", 0), ("01 : code 0 0 1 1 2 2", 7)):
             refuses(self, BadText(0, word), Menu.read, text)
 

@@ -129,7 +129,8 @@ class CodeTest(unittest.TestCase):
         refuses(self, BadWord("A"), Code, {"0": "A"})
 
     def test_begins(self):
-        for words in ({"0": "0", "1": "0"}, {"0": "0", "1": "01"}, {"0": "01", "1": "0"}, {"0": "011", "1": "1", "2": "01"},
+        for words in ({"0": "0", "1": "0"}, {"0": "0", "1": "01"}, {"0": "01", "1": "0"},
+                      {"0": "011", "1": "1", "2": "01"},
                       {"0": "1", "1": "01", "2": "011"}):
             refuses(self, BadMove("begins"), Code, words)
         self.assertEqual(len(Code({"0": "01", "1": "00", "2": "1", "3": "21"})), 4)
@@ -230,8 +231,10 @@ class ReadTest(unittest.TestCase):
 
     def test_by_hand(self):
         for text, word in (("", 0), ("put", 1), ("put ", 1), ("put 00", 1), ("put 0 0", 2), ("put 0 ", 2), ("code", 1),
-                           ("code 0", 2), ("code 0 0 ", 3), ("code 0 0 0 1", 3), ("code 1 0 0 1", 3), ("code 0 0 1 01", 4),
-                           ("code 0 01 1 0", 4), ("code 0 0 1 0", 4), ("code 0 0000", 2), ("code 0 0 1", 4), ("Put 0", 0),
+                           ("code 0", 2), ("code 0 0 ", 3), ("code 0 0 0 1", 3), ("code 1 0 0 1", 3),
+                           ("code 0 0 1 01", 4),
+                           ("code 0 01 1 0", 4), ("code 0 0 1 0", 4), ("code 0 0000", 2), ("code 0 0 1", 4),
+                           ("Put 0", 0),
                            ("code 00 0", 1), ("code 0 - ", 2), ("code  0 0", 1), ("puts 0", 0), ("code 0 0 12 1", 3)):
             refuses(self, BadText(0, word), Move.read, text)
         self.assertEqual(Move.read("code q 0"), Code({"q": "0"}))

@@ -295,7 +295,8 @@ class RateTest(unittest.TestCase):
         for rate in RATES:
             self.assertTrue(same(Rate.read(str(rate)), rate))
         self.assertEqual(Rate.read(text="10/3"), Rate(10, 3))
-        for text in ("", "/", "1/", "/1", "2/1", "12/10", "0/1", "0/5", "1/0", "01", "1/02", "+1", "-1", "1 ", " 1", "1/2/3",
+        for text in ("", "/", "1/", "/1", "2/1", "12/10", "0/1", "0/5", "1/0", "01", "1/02", "+1", "-1", "1 ", " 1",
+                     "1/2/3",
                      "1 /2", "a", "1.5", "1/2 ", "1/-2", "1_0", "1\n", "\n1", "6/5 6/5", "00", "0/0", "01/2", "1/1"):
             refuses(self, BadText(0, 0), Rate.read, text)
         for value in others(lambda value: value in ("0", "1", "2", "01", "10", "00", "011")):

@@ -238,15 +238,18 @@ class TableTest(unittest.TestCase):
         self.assertEqual(Table.read(text="0 : put 1"), Table({"0": Put("1")}))
 
     def test_read_spoilt_texts(self):
-        more = ["-", ":", ";", "put", "code", "0", "1", "a", "00", "table", "zzzzzzz", "00000000", "", "0\n", "A", "0000"]
+        more = ["-", ":", ";", "put", "code", "0", "1", "a", "00", "table", "zzzzzzz", "00000000", "", "0\n", "A",
+                "0000"]
         for text in ("- : code 0 0 1 1 ; 1 : put 0", "0 : put a ; z : code a aa ; 00 : put 0", "table",
                      "table : put 0 ; zzzzzzz : put 1", "- : put 0 ; zzzzzzz : code z 0 ; aaaaaaa : put 0"):
             check_read(self, Table.read, text.split(" "), more, table_stands, table_complete)
 
     def test_read_by_hand(self):
-        for text, word in (("", 0), ("-", 1), ("table table", 1), ("table :", 2), ("- : put 0 ;", 5), ("- : put 0 ; -", 5),
+        for text, word in (("", 0), ("-", 1), ("table table", 1), ("table :", 2), ("- : put 0 ;", 5),
+                           ("- : put 0 ; -", 5),
                            ("0 : put 0 ; -", 5), ("1 : put 0 ; 0 : put 0", 5), ("00 : put 0 ; 1 : put 0", 5),
-                           ("0 : put 0 ; 0 : put 0", 5), ("- : put 0 0", 4), ("- : code 0 0 1", 6), ("00000000 : put 0", 0),
+                           ("0 : put 0 ; 0 : put 0", 5), ("- : put 0 0", 4), ("- : code 0 0 1", 6),
+                           ("00000000 : put 0", 0),
                            ("- put 0", 1), ("- : table", 2), ("- : put 0 ; 0", 6), ("- : put 0 ", 4), ("table ", 1)):
             refuses(self, BadText(0, word), Table.read, text)
 
@@ -292,7 +295,8 @@ class LateTest(unittest.TestCase):
         setting = Setting(Bars("012", "22", "200"))
         self.assertEqual([Late()(sent, setting) for sent in ("", "2", "20")], [Code.plain("012"), Put("1"), Put("1")])
         setting = Setting(Bars("012", "11", "12", "101", "102"))
-        self.assertEqual([Late()(sent, setting) for sent in ("1", "10", "100")], [Put("0"), Put("0"), Code.plain("012")])
+        self.assertEqual([Late()(sent, setting) for sent in ("1", "10", "100")],
+                         [Put("0"), Put("0"), Code.plain("012")])
         setting = Setting(Bars("012", "00", "01"))
         self.assertEqual(Late()("0", setting), Put("2"))
         setting = Setting(Bars("012", "02"))

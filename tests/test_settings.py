@@ -126,8 +126,8 @@ class SettingTest(unittest.TestCase):
         self.assertEqual(setting.with_start("00"), Setting(BARS, Menu("01", LONG), Prices("01", {"0": 2}), "00"))
         self.assertEqual(setting.with_menu(None), Setting(BARS, None, Prices("01", {"0": 2}), "1"))
         self.assertEqual(setting.with_prices(None), Setting(BARS, Menu("01", LONG), None, "1"))
-        self.assertEqual(setting.with_bars(bars=bars).with_menu(menu=menu).with_prices(prices=prices).with_start(start=""),
-                         Setting(bars, menu, prices))
+        found = setting.with_bars(bars=bars).with_menu(menu=menu).with_prices(prices=prices).with_start(start="")
+        self.assertEqual(found, Setting(bars, menu, prices))
         self.assertEqual(setting, Setting(BARS, Menu("01", LONG), Prices("01", {"0": 2}), "1"))
 
     def test_with_errors(self):
@@ -151,7 +151,8 @@ class SettingTest(unittest.TestCase):
         self.assertEqual(setting.changed(table=TURN).changed(TURN), setting)
         for value in others(lambda value: value in (TURN, {"0": "0", "1": "1"})):
             refuses(self, BadSetting("table"), setting.changed, value)
-        for value in ({"0": "1", "1": "1"}, {"0": "1"}, {"0": "1", "1": "0", "2": "2"}, {"0": "a", "1": "b"}, {"0": 0, "1": 1}):
+        for value in ({"0": "1", "1": "1"}, {"0": "1"}, {"0": "1", "1": "0", "2": "2"}, {"0": "a", "1": "b"},
+                      {"0": 0, "1": 1}):
             refuses(self, BadSetting("table"), setting.changed, value)
 
     def test_equality(self):
@@ -178,9 +179,11 @@ class ReadTest(unittest.TestCase):
         self.assertEqual(Setting.read(text=str(Setting(BARS))), Setting(BARS))
 
     def test_spoilt_texts(self):
-        more = ["01", "012", ":", "-", ";", "/", "put", "code", "0", "1", "2", "00", "11", "110", "9", "", "0\n", "0110"]
-        for text in ("01 : 110 / 01 : code 0 0 1 1 ; put 0 / 01 : 2 1 / 1 3 / 11", "01 : - / 01 : - / 01 : 1 1 / 1 1 / -",
-                     "01 : 00 0101 / 01 : put 0 ; put 1 / 01 : 1 1 / 1 1 / 010", "01 : 0 / 01 : put 1 / 01 : 1 1 / 1 1 / -"):
+        more = ["01", "012", ":", "-", ";", "/", "put", "code", "0", "1", "2", "00", "11", "110", "9", "", "0\n",
+                "0110"]
+        for text in ("01 : 110 / 01 : code 0 0 1 1 ; put 0 / 01 : 2 1 / 1 3 / 11",
+                     "01 : - / 01 : - / 01 : 1 1 / 1 1 / -", "01 : 0 / 01 : put 1 / 01 : 1 1 / 1 1 / -",
+                     "01 : 00 0101 / 01 : put 0 ; put 1 / 01 : 1 1 / 1 1 / 010"):
             check_read(self, Setting.read, text.split(" "), more, setting_stands, setting_complete)
 
     def test_by_hand(self):

@@ -127,7 +127,8 @@ class TrapsTest(unittest.TestCase):
     def test_steps(self):
         setting = Setting(Bars("01", "11", "101", "1001"))
         found = judged(setting.with_start("1"))
-        self.assertTrue(same(found.ways, {"1": (Put("0"), 3), "10": (Put("0"), 2), "100": (Put("0"), 1), "": (PLAIN, 0)}))
+        self.assertTrue(same(found.ways,
+                             {"1": (Put("0"), 3), "10": (Put("0"), 2), "100": (Put("0"), 1), "": (PLAIN, 0)}))
 
     def test_only_ends_that_come(self):
         setting = Setting(Bars("01", "11", "0000"), Menu("01", Code({"0": "10", "1": "01"}), Put("0")))
@@ -174,7 +175,8 @@ class TrapsTest(unittest.TestCase):
         for value in others(lambda value: value is None or value == {}):
             for work in (rounds, open_ends, judged):
                 refuses(self, BadMove("fixed"), work, setting, value)
-        for value in ({"111": PLAIN}, {"0": PLAIN}, {"1": PLAIN, "a": PLAIN}, {"1": None}, {"1": Put("1")}, {"1": "put 0"},
+        for value in ({"111": PLAIN}, {"0": PLAIN}, {"1": PLAIN, "a": PLAIN}, {"1": None}, {"1": Put("1")},
+                      {"1": "put 0"},
                       {"": PLAIN, "1": Code({"0": "1", "1": "0"})}, {1: PLAIN}, {None: PLAIN}, [("1", PLAIN)]):
             for work in (rounds, open_ends, judged):
                 refuses(self, BadMove("fixed"), work, setting, fixed=value)
