@@ -25,6 +25,19 @@ def ends_of(words):
     return tuple(sorted([str(end) for end in found]))
 
 
+def onward_ends(signs, words, ends):
+    """The dict from each end to the dict from each sign to the end behind both, None if a word is completed."""
+    known = {**{end: end for end in ends}, **{word: None for word in words}}
+    found = {}
+    shorter = {}
+    for end in sorted(ends, key=len):
+        # Where neither an end nor a word begins so, the longest shorter ending that is an end tells what comes.
+        shorter[end] = found[shorter[end[:-1]]][end[-1]] if len(end) > 1 else ""
+        less = found[shorter[end]] if end != "" else {}
+        found[end] = {sign: known.get(end + sign, less.get(sign, "")) for sign in signs}
+    return found
+
+
 def checked_words(signs, words):
     """The words that bars keep; raises what Bars raises of them."""
     for word in words:
@@ -67,6 +80,8 @@ class Bars:
         self.words = checked_words(signs, words)
         self.ends = ends_of(self.words)
         self._longest_first = sorted(self.ends, key=len, reverse=True)
+        # What a sign costs to look up hangs on the end and the sign alone, however often it is asked.
+        self._onward = onward_ends(signs, self.words, self.ends)
 
     @classmethod
     def of(cls, signs, words):
@@ -116,6 +131,14 @@ class Bars:
         if not is_text(text, self.signs):
             raise BadSent(text)
         return self._end(end + text)
+
+    def onward(self, end, text):
+        """The end behind an end of these bars and a text of their signs, None if a word is completed."""
+        for sign in text:
+            if end is None:
+                return None
+            end = self._onward[end][sign]
+        return end
 
     def _end(self, text):
         """The end of a text, None if a barred word stands in it."""

@@ -1,9 +1,9 @@
 """Coding: what a rule sends for a content, and the content for which it sends a text."""
 
-from flagfree.errors import BadContent, BadMove, BadRule, BadSent, BadSetting, NoEnd, Refused, Stuck, TooMany
+from flagfree.errors import BadContent, BadMove, BadRule, BadSent, NoEnd, Refused, Stuck, TooMany
 from flagfree.moves import Put
 from flagfree.rules import Rule
-from flagfree.settings import Setting, told_outcomes
+from flagfree.settings import check_setting, told_outcomes
 from flagfree.signs import is_text
 
 MOST_PUTS = 100
@@ -23,17 +23,21 @@ class Step:
                 and self.text == other.text and self.price == other.price)
 
 
-def check_coding(rule, setting):
-    """See that these are a Rule and a Setting."""
+def check_rule(rule):
+    """See that this is a Rule."""
     if not isinstance(rule, Rule):
         raise BadRule("rule")
-    if not isinstance(setting, Setting):
-        raise BadSetting("setting")
 
 
-def told_move(rule, sent, end, setting):
-    """The move of the menu that a rule tells behind a text with this end."""
-    move = rule.tell(sent, end, setting)
+def check_coding(rule, setting):
+    """See that these are a Rule and a Setting."""
+    check_rule(rule)
+    check_setting(setting)
+
+
+def told_move(rule, text, at, end, setting):
+    """The move of the menu that a rule tells behind the first signs of a text, so many, with this end."""
+    move = rule.tell(text, at, end, setting)
     if move is None:
         raise Stuck(end) from NoEnd(end)
     if move not in setting.menu:
@@ -43,7 +47,7 @@ def told_move(rule, sent, end, setting):
 
 def end_of_put(move, end, setting):
     """The end behind a put."""
-    behind = setting.bars.behind(end, move.sign)
+    behind = setting.bars.onward(end, move.sign)
     if behind is None:
         raise Stuck(end)
     return behind
@@ -58,16 +62,16 @@ def steps(rule, setting, content):
     end = setting.start
     for sign in content:
         puts = 0
-        move = told_move(rule, sent, end, setting)
+        move = told_move(rule, sent, len(sent), end, setting)
         while isinstance(move, Put):
             end = end_of_put(move, end, setting)
             puts = puts + 1
             if puts > MOST_PUTS:
                 raise TooMany("puts", MOST_PUTS)
             sent = sent + move.sign
-            yield Step(move, None, move.sign, setting.prices.cost(move.sign))
-            move = told_move(rule, sent, end, setting)
-        behind = setting.bars.behind(end, move[sign])
+            yield Step(move, None, move.sign, setting.prices.price_of(move.sign))
+            move = told_move(rule, sent, len(sent), end, setting)
+        behind = setting.bars.onward(end, move[sign])
         if behind is None:
             raise Stuck(end)
         end = behind
@@ -100,7 +104,7 @@ def heard(rule, setting, text):
     at = 0
     puts = 0
     while at < len(text):
-        move = told_move(rule, text[:at], end, setting)
+        move = told_move(rule, text, at, end, setting)
         if isinstance(move, Put):
             end = end_of_put(move, end, setting)
             puts = puts + 1

@@ -55,6 +55,7 @@ class Menu:
         self.codes = tuple([move for move in moves if isinstance(move, Code)])
         self.puts = tuple([Put(sign) for sign in put_signs(moves)])
         self.moves = self.codes + self.puts
+        self._put_signs = {put.sign: True for put in self.puts}
 
     @classmethod
     def of(cls, signs, moves):
@@ -90,7 +91,9 @@ class Menu:
         return iter(self.moves)
 
     def __contains__(self, move):
-        return move in self.moves
+        if isinstance(move, Put):
+            return move.sign in self._put_signs
+        return move in self.codes
 
     def __eq__(self, other):
         return isinstance(other, Menu) and self.signs == other.signs and self.moves == other.moves

@@ -107,6 +107,10 @@ class Prices:
             raise BadContent(content)
         return summed(content, self._weights)
 
+    def worth(self, sign, text):
+        """The price of a text, and the weight of the content sign that it is sent for, 0 where this is None."""
+        return sum([self._prices[one] for one in text]), 0 if sign is None else self._weights[sign]
+
     def with_price(self, sign, price):
         """The prices with another price of a sign."""
         if not is_sign(sign, self.signs):

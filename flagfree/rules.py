@@ -3,7 +3,7 @@
 from flagfree.cursor import Cursor
 from flagfree.errors import BadEnd, BadMove, BadRule, BadSent, BadSetting, BadTable, NoEnd, Stuck
 from flagfree.moves import Move, take_move
-from flagfree.settings import Setting, told_outcomes
+from flagfree.settings import Setting, check_setting, told_outcomes
 from flagfree.signs import SIGNS, is_text, is_word
 from flagfree.traps import lost_ends, moves_at, open_ways
 
@@ -12,12 +12,17 @@ MOST_SIGNS = 7
 
 def end_behind(sent, setting):
     """The end behind all that was sent, from the start of the setting on."""
-    if not isinstance(setting, Setting):
-        raise BadSetting("setting")
+    check_setting(setting)
     end = setting.bars.behind(setting.start, sent)
     if end is None:
         raise BadSent(sent)
     return end
+
+
+def move_behind(rule, sent, setting):
+    """The move that a rule tells behind all that was sent."""
+    end = end_behind(sent, setting)
+    return rule.tell(sent, len(sent), end, setting)
 
 
 def joined_rules(one, other):
@@ -63,13 +68,16 @@ class Rule:
     """The base of rules; it is not made itself."""
 
     def __call__(self, sent, setting):
-        return self.tell(sent, end_behind(sent, setting), setting)
+        return move_behind(self, sent, setting)
 
     def __or__(self, other):
         return joined_rules(self, other)
 
-    def tell(self, sent, end, setting):
-        """The move behind a text with this end; a rule of no kind tells none."""
+    def tell(self, text, at, end, setting):
+        """The move behind the first signs of a text, so many, with this end; a rule of no kind tells none.
+
+        The text is not cut ahead of this: only what looks at more than the end pays for its length.
+        """
         return None
 
 
@@ -99,9 +107,9 @@ class Table(Rule):
         return Table(told)
 
     def __call__(self, sent, setting):
-        return self.tell(sent, end_behind(sent, setting), setting)
+        return move_behind(self, sent, setting)
 
-    def tell(self, sent, end, setting):
+    def tell(self, text, at, end, setting):
         """The move that is told for an end."""
         return self._told.get(end)
 
@@ -166,9 +174,9 @@ class Late(Rule):
         self._ways = {}
 
     def __call__(self, sent, setting):
-        return self.tell(sent, end_behind(sent, setting), setting)
+        return move_behind(self, sent, setting)
 
-    def tell(self, sent, end, setting):
+    def tell(self, text, at, end, setting):
         """The latest move at an end, None at a lost one."""
         if not self._setting == setting:
             moves = moves_at(setting, None)
@@ -195,12 +203,12 @@ class By(Rule):
         self.work = work
 
     def __call__(self, sent, setting):
-        return self.tell(sent, end_behind(sent, setting), setting)
+        return move_behind(self, sent, setting)
 
-    def tell(self, sent, end, setting):
+    def tell(self, text, at, end, setting):
         """The move that the function returns."""
         work = self.work
-        move = work(sent, setting)
+        move = work(text[:at], setting)
         if move is not None and not isinstance(move, Move):
             raise BadRule("move")
         return move
@@ -222,12 +230,12 @@ class Joined(Rule):
         self.parts = parts_of(one) + parts_of(other)
 
     def __call__(self, sent, setting):
-        return self.tell(sent, end_behind(sent, setting), setting)
+        return move_behind(self, sent, setting)
 
-    def tell(self, sent, end, setting):
+    def tell(self, text, at, end, setting):
         """The first move that a part tells."""
         for part in self.parts:
-            move = part.tell(sent, end, setting)
+            move = part.tell(text, at, end, setting)
             if move is not None:
                 return move
         return None

@@ -9,10 +9,16 @@ from flagfree.prices import Prices, take_prices
 from flagfree.signs import exchanged, is_exchange
 
 
+def check_setting(setting):
+    """See that this is a Setting."""
+    if not isinstance(setting, Setting):
+        raise BadSetting("setting")
+
+
 def told_outcomes(bars, end, move):
     """The outcomes of a move of the alphabet at an end of the bars."""
     pairs = [(None, move.sign)] if isinstance(move, Put) else list(move.words)
-    return tuple([(sign, text, bars.behind(end, text)) for sign, text in pairs])
+    return tuple([(sign, text, bars.onward(end, text)) for sign, text in pairs])
 
 
 def take_alphabet(cursor, signs):

@@ -20,7 +20,7 @@ def is_word(value, signs, most):
 
 def is_sign(value, signs):
     """Whether a value is one of some signs."""
-    return is_word(value, signs, 1)
+    return isinstance(value, str) and len(value) == 1 and value in signs
 
 
 def is_alphabet(value):

@@ -1,8 +1,8 @@
 """Lost ends: from them nobody can send all contents."""
 
-from flagfree.errors import BadMove, BadSetting
+from flagfree.errors import BadMove
 from flagfree.moves import Code
-from flagfree.settings import Setting, told_outcomes
+from flagfree.settings import check_setting, told_outcomes
 
 
 class Open:
@@ -30,8 +30,7 @@ class Trap:
 
 def check_fixed(setting, fixed):
     """See that fixed is None or a dict from ends to moves of the menu."""
-    if not isinstance(setting, Setting):
-        raise BadSetting("setting")
+    check_setting(setting)
     if fixed is None:
         return
     if not isinstance(fixed, dict):
@@ -40,13 +39,18 @@ def check_fixed(setting, fixed):
         raise BadMove("fixed")
 
 
+def told_moves(setting, fixed, end):
+    """The moves that the menu means at an end: the fixed one alone, if there is one."""
+    if fixed is not None and end in fixed:
+        return (fixed[end],)
+    return setting.menu.moves
+
+
 def moves_at(setting, fixed):
     """The dict from all ends to the list of the moves there, each with the list of the ends behind."""
     found = {}
     for end in setting.bars.ends:
-        moves = setting.menu.moves
-        if fixed is not None and end in fixed:
-            moves = (fixed[end],)
+        moves = told_moves(setting, fixed, end)
         found[end] = [(move, [behind for _, _, behind in told_outcomes(setting.bars, end, move)]) for move in moves]
     return found
 
