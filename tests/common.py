@@ -3,11 +3,15 @@
 from flagfree import errors
 from flagfree.bars import Bars
 from flagfree.coding import Step
+from flagfree.foe import Caught, Foe, Game
+from flagfree.least import Least
 from flagfree.menus import Menu
 from flagfree.moves import Code, Put
 from flagfree.prices import Prices, Rate
+from flagfree.rates import Worst
 from flagfree.rules import By, Late, Table
 from flagfree.settings import Setting
+from flagfree.sizes import Round, Sizes
 from flagfree.traps import Open, Trap
 
 FIELDS = {
@@ -42,6 +46,8 @@ def values():
         Menu("ab", Put("a")), Prices("01"), Prices("ab"), Rate(0), Rate(6, 5), Setting(Bars("01", "11")),
         Setting(Bars("ab")), Table({}), Table({"": Put("0")}), Late(), By(len), Late() | By(len), Open({"": 1}),
         Trap({"": 1}), Step(Put("0"), None, "0", 1), errors.BadSign("0"), errors.NoChange(),
+        Worst(Rate(2), {"": 0}, "", "0"), Least(Rate(2), Table({}), {"": 0}, {"": 0}, {}), Sizes(({"": 0},)),
+        Round(0, 1, 1, ("",)), Game("", "", 0), Caught("1", "1", "word"), Foe(Setting(Bars("01", "11"))),
     ]
 
 
@@ -98,6 +104,36 @@ def accepts(test, result, work, *args, **more):
     """See that a call returns just this."""
     found = work(*args, **more)
     test.assertTrue(same(found, result), f"{result!r} expected, {found!r} returned")
+
+
+def near_dicts(right, keys, worths):
+    """Dicts near to one: with a key left out, with another worth, with one key more."""
+    rows = [{}]
+    for key in right:
+        rows.append({one: right[one] for one in right if one != key})
+        rows.extend({**right, key: worth} for worth in worths)
+        if type(right[key]) is int:
+            rows.extend({**right, key: right[key] + more} for more in (-2, -1, 1, 2, 100, 10 ** 35))
+            rows.extend([{**right, key: bool(right[key])}, {**right, key: str(right[key])}])
+    for key in keys:
+        if key not in right:
+            rows.extend({**right, key: worth} for worth in worths)
+    return rows
+
+
+def check_paper(test, paper, names, is_true=True):
+    """See that a class makes papers of any values, which compare as Python compares what they keep."""
+    for value in values():
+        for k, name in enumerate(names):
+            kept = list(range(len(names)))
+            kept[k] = value
+            for made in (paper(*kept), paper(**dict(zip(names, kept)))):
+                test.assertTrue(all(same(getattr(made, names[j]), kept[j]) for j in range(len(names))))
+                test.assertIs(bool(made), is_true)
+                test.assertIs(made == paper(*kept), True)
+                test.assertIs(made == paper(*range(len(names))), value == k)
+                test.assertIs(made != paper(*range(len(names))), value != k)
+        test.assertIs(paper(*range(len(names))) == value, False)
 
 
 def first_bad(words, stands, complete):

@@ -1,6 +1,7 @@
 """Plain definitions, against which the program is tested."""
 
 import itertools
+from fractions import Fraction
 
 from flagfree.moves import Code, Put
 
@@ -220,3 +221,258 @@ def slow_rounds(setting, fixed=None):
             if end not in ends and end not in found:
                 found[end] = n
     return found
+
+
+def is_trap(setting, fixed, trap):
+    """Whether a dict is a trap by its definition."""
+    for end, turn in trap.items():
+        if end not in setting.bars.ends or type(turn) is not int or turn < 1:
+            return False
+    for end, turn in trap.items():
+        for move in told_moves(setting, fixed, end):
+            behind = [outcome[2] for outcome in setting.outcomes(end, move)]
+            most = turn if isinstance(move, Put) else turn - 1
+            if not any(one is None or one in trap and trap[one] <= most for one in behind):
+                return False
+    return True
+
+
+# Rates, by the rings of the ends that come, and by all tables.
+
+def outcomes(setting, end, move):
+    """The outcomes (sign, price, weight, end behind) of a move at an end."""
+    rows = []
+    for sign, text in [(None, move.sign)] if isinstance(move, Put) else move.words:
+        price = sum(setting.prices.price_of(one) for one in text)
+        weight = 0 if sign is None else setting.prices.weight_of(sign)
+        rows.append((sign, price, weight, slow_end(end + text, setting.bars.words)))
+    return rows
+
+
+def come_by(setting, moves):
+    """The ends that come by some moves, breadth first, and the first one without a fit move, or None."""
+    come = [setting.start]
+    for end in come:
+        if end not in moves or moves[end] not in setting.menu.moves:
+            return come, end
+        behind = [outcome[3] for outcome in outcomes(setting, end, moves[end])]
+        if None in behind:
+            return come, end
+        come.extend(one for one in dict.fromkeys(behind) if one not in come)
+    return come, None
+
+
+def endless(setting, moves, come):
+    """The first of the ends that come from which signs are put in for ever, or None."""
+    for first in come:
+        end = first
+        for _ in come:
+            if isinstance(moves[end], Put):
+                end = outcomes(setting, end, moves[end])[0][3]
+        if isinstance(moves[end], Put):
+            return first
+    return None
+
+
+def slow_rings(setting, moves, come):
+    """The (price, weight) of all rings without an end that comes twice."""
+    found = []
+
+    def go(first, end, price, weight, seen):
+        for _, more, heavier, behind in outcomes(setting, end, moves[end]):
+            if behind == first:
+                found.append((price + more, weight + heavier))
+            elif behind not in seen and come.index(behind) > come.index(first):
+                go(first, behind, price + more, weight + heavier, seen | {behind})
+
+    for first in come:
+        go(first, first, 0, 0, {first})
+    return found
+
+
+def slow_worst(setting, moves):
+    """The greatest rate of moves that send all contents, None for others."""
+    come, stuck = come_by(setting, moves)
+    if stuck is not None or endless(setting, moves, come) is not None:
+        return None
+    return max(Fraction(price, weight) for price, weight in slow_rings(setting, moves, come))
+
+
+def least_numbers(setting, moves, come, price, weight):
+    """The least numbers from 0 on that keep a rate that is kept, by the rows [7]."""
+    numbers = dict.fromkeys(come, 0)
+    for _ in range(len(come) + 1):
+        numbers = {end: max([0] + [weight * cost - price * heavy + numbers[behind]
+                                   for _, cost, heavy, behind in outcomes(setting, end, moves[end])])
+                   for end in come}
+    return numbers
+
+
+def all_tables(setting, fixed=None):
+    """The moves of all tables, made end by end as best tables are: the least end that has none is told first."""
+
+    def go(moves):
+        come = come_of(setting, moves)
+        missing = sorted(end for end in come if end not in moves)
+        if not missing:
+            yield moves
+            return
+        for move in told_moves(setting, fixed, missing[0]):
+            if setting.is_fit(missing[0], move):
+                yield from go({**moves, missing[0]: move})
+
+    yield from go({})
+
+
+def come_of(setting, moves):
+    """The ends that come by some fit moves, those at which there is none among them."""
+    come = [setting.start]
+    for end in come:
+        if end in moves:
+            come.extend(one for one in {row[3]: 0 for row in outcomes(setting, end, moves[end])} if one not in come)
+    return come
+
+
+def slow_least(setting, fixed=None):
+    """The least rate of all tables, None if none sends all contents."""
+    rates = [slow_worst(setting, moves) for moves in all_tables(setting, fixed)]
+    return min([rate for rate in rates if rate is not None], default=None)
+
+
+def few_tables(setting, most):
+    """Whether a setting has at most so many tables."""
+    many = 1
+    for end in setting.bars.ends:
+        many *= max(1, len(setting.let(end)))
+    return many <= most
+
+
+def are_numbers(setting, numbers):
+    return (type(numbers) is dict and setting.start in numbers and all(end in setting.bars.ends for end in numbers)
+            and all(type(number) is int and number >= 0 for number in numbers.values()))
+
+
+def keeps(setting, price, weight, table, numbers, fixed=None):
+    """Whether numbers keep a rate for a table [7]."""
+    if not are_numbers(setting, numbers):
+        return False
+    for end in numbers:
+        if end not in table or table[end] not in told_moves(setting, fixed, end):
+            return False
+        for _, cost, heavy, behind in outcomes(setting, end, table[end]):
+            if behind not in numbers or numbers[end] < weight * cost - price * heavy + numbers[behind]:
+                return False
+    return True
+
+
+def forces(setting, price, weight, against, rounds, fixed=None):
+    """Whether numbers, beside a trap, force a rate [7]."""
+    if type(rounds) is not dict or not is_trap(setting, fixed, rounds) or not are_numbers(setting, against):
+        return False
+    for end in against:
+        for move in told_moves(setting, fixed, end):
+            rows = outcomes(setting, end, move)
+            if not any(behind is None or behind in rounds or behind in against
+                       and against[end] <= weight * cost - price * heavy + against[behind]
+                       for _, cost, heavy, behind in rows):
+                return False
+    return True
+
+
+# Sizes, by the definition [8].
+
+def put_ways(setting, end):
+    """The pairs (price, end) to which rows of fit puts lead, each end once in a row."""
+    found = []
+
+    def go(one, price, seen):
+        found.append((price, one))
+        for move in setting.menu.moves:
+            if isinstance(move, Put):
+                _, more, _, behind = outcomes(setting, one, move)[0]
+                if behind is not None and behind not in seen:
+                    go(behind, price + more, seen | {behind})
+
+    go(end, 0, {end})
+    return found
+
+
+def code_price(setting, end, move, row):
+    """The price of a code at an end with the numbers of a row behind it, None if it does not count."""
+    told = outcomes(setting, end, move)
+    if any(behind not in row for _, _, _, behind in told):
+        return None
+    return max(price + row[behind] for _, price, _, behind in told)
+
+
+def slow_rows(setting, many):
+    """The rows of 0 to so many signs."""
+    ways = {end: put_ways(setting, end) for end in setting.bars.ends}
+    codes = [move for move in setting.menu.moves if not isinstance(move, Put)]
+    rows = [{end: 0 for end in setting.bars.ends}]
+    for _ in range(many):
+        coded = {end: [code_price(setting, end, move, rows[-1]) for move in codes] for end in setting.bars.ends}
+        row = {}
+        for end in setting.bars.ends:
+            prices = [price + more for price, one in ways[end] for more in coded[one] if more is not None]
+            if prices:
+                row[end] = min(prices)
+        rows.append(row)
+    return rows
+
+
+def slow_having(setting, ahead, row, end):
+    """The moves that have the number of a row at an end, ahead being the row of a sign less."""
+    found = []
+    for move in setting.menu.moves if end in row else ():
+        if isinstance(move, Put):
+            _, price, _, behind = outcomes(setting, end, move)[0]
+            if behind in row and price + row[behind] == row[end]:
+                found.append(move)
+        elif code_price(setting, end, move, ahead) == row[end]:
+            found.append(move)
+    return found
+
+
+def slow_come(setting):
+    """The ends that come by all moves of the menu that complete no word with some outcome."""
+    come = [setting.start]
+    for end in come:
+        for move in setting.menu.moves:
+            for _, _, _, behind in outcomes(setting, end, move):
+                if behind is not None and behind not in come:
+                    come.append(behind)
+    return come
+
+
+def is_round(setting, first, step, gain, lot, rows):
+    """Whether these integers and these ends are a round by the rows."""
+    later, row = rows[first + step], rows[first]
+    come = slow_come(setting)
+    if setting.start not in lot or any(end not in come for end in lot):
+        return False
+    if any(end in later and (end not in row or later[end] - row[end] < gain) for end in come):
+        return False
+    if any(end not in later or later[end] - row[end] != gain for end in lot):
+        return False
+    for m in range(first + 1, first + step + 1):
+        for end in lot:
+            moves = slow_having(setting, rows[m - 1], rows[m], end)
+            if not any(all(behind in lot for _, _, _, behind in outcomes(setting, end, move)) for move in moves):
+                return False
+    return True
+
+
+def greatest_lot(setting, first, step, rows):
+    """The gain and the greatest lot of a round of this first and step, by all sets of ends; None if there is none."""
+    later, row, start = rows[first + step], rows[first], setting.start
+    if start not in later:
+        return None
+    gain = later[start] - row[start]
+    come = [end for end in slow_come(setting) if end in later and later[end] - row[end] == gain]
+    found = set()
+    for many in range(1, len(come) + 1):
+        for lot in itertools.combinations(come, many):
+            if is_round(setting, first, step, gain, lot, rows):
+                found |= set(lot)
+    return (gain, tuple(sorted(found))) if found else None

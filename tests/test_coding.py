@@ -252,6 +252,72 @@ class CodingTest(unittest.TestCase):
         self.assertEqual(decoded(By(lambda sent, setting: PLAIN), FREE, content), content)
 
 
+class ManyPutsTest(unittest.TestCase):
+    """Tables that put in signs up to the 101st, asked again and again."""
+
+    SETTING = Setting(Bars("01", "00", "11"))
+    TABLE = Table({"": Put("0"), "0": Put("1"), "1": Put("0")})
+
+    def first_steps(self, rule, setting, content):
+        """The steps ahead of the error that is raised, and this error."""
+        rows = []
+        try:
+            for step in steps(rule, setting, content):
+                rows.append(row_of(step))
+        except TooMany as error:
+            return rows, error
+        return self.fail("TooMany expected")
+
+    def test_asked_2000_times(self):
+        expected, at = slow_steps(self.TABLE, self.SETTING, "0")
+        self.assertTrue(at is TooMany and len(expected) == 100)
+        for _ in range(2000):
+            rows, error = self.first_steps(self.TABLE, self.SETTING, "0")
+            self.assertEqual(rows, expected)
+            self.assertTrue(same_error(error, TooMany("puts", 100)))
+            refuses(self, TooMany("puts", 100), coded, self.TABLE, self.SETTING, "0")
+            refuses(self, TooMany("puts", 100), paid, self.TABLE, self.SETTING, "0")
+            refuses(self, Refused(81), decoded, self.TABLE, self.SETTING, "01" * 40 + "0")
+            self.assertIs(is_coding(self.TABLE, self.SETTING, "01" * 40 + "0"), False)
+
+    def test_many_tables_by_a_plain_search(self):
+        draw = random.Random(47)
+        many = 0
+        for setting in some_settings(150):
+            for table in some_tables(draw, setting, 3):
+                for content in texts(setting.bars.signs, 1):
+                    expected, at = slow_steps(table, setting, content)
+                    if at is TooMany:
+                        rows, _ = self.first_steps(table, setting, content)
+                        self.assertTrue(same(rows, expected))
+                        many += 1
+        self.assertGreater(many, 20)
+
+    def test_puts_that_are_equal_to_those_of_the_menu(self):
+        menu = Menu("01", Code({"0": "0", "1": "1"}), Put("1"), Put("0"))
+        setting = self.SETTING.with_menu(menu)
+        self.assertEqual(self.first_steps(self.TABLE, setting, "0")[0], slow_steps(self.TABLE, setting, "0")[0])
+        error = refuses(self, Stuck(""), coded, self.TABLE, setting.with_menu(Menu("01", Put("1"))), "0")
+        self.assertTrue(same_error(error.__cause__, BadMove("menu")))
+        error = refuses(self, Stuck("0"), coded, self.TABLE, setting.with_menu(Menu("01", Put("0"))), "0")
+        self.assertTrue(same_error(error.__cause__, BadMove("menu")))
+
+    def test_long_contents(self):
+        pair = Setting(Bars("01", "11"))
+        table = Table({"": PLAIN, "1": Put("0")})
+        rows = []
+
+        def work(sent, setting):
+            rows.append(sent)
+            return Put("0") if sent.endswith("1") else PLAIN
+
+        content = "1" * 700 + "01" * 300
+        text = coded(table, pair, content)
+        self.assertEqual(coded(By(work), pair, content), text)
+        self.assertEqual((decoded(table, pair, text), decoded(By(work), pair, text)), (content, content))
+        self.assertEqual(rows, [text[:k] for k in range(len(text))] * 2)
+
+
 class DecodedTest(unittest.TestCase):
 
     def check_text(self, rule, setting, text, contents, begins):

@@ -90,18 +90,107 @@ raises Stuck('11111')
 
 TRAPS = r'''
 >>> from flagfree.bars import Bars
+>>> from flagfree.look_traps import shows_open, shows_trap
 >>> from flagfree.settings import Setting
 >>> from flagfree.traps import Open, Trap, judged, open_ends, rounds
 >>> late, both = Setting(Bars("01", "110", "111")), Setting(Bars("01", "00", "11"))
->>> [rounds(late), open_ends(late), bool(judged(late)), rounds(both) == {"": 2, "0": 1, "1": 1}]
-[{'11': 1}, ('', '1'), True, True]
->>> [judged(both) == Trap(rounds(both))]
-[True]
+>>> [rounds(late), open_ends(late), bool(judged(late)), shows_open(late, judged(late)), rounds(both) == {"": 2, "0": 1, "1": 1}]
+[{'11': 1}, ('', '1'), True, True, True]
+>>> [judged(both) == Trap(rounds(both)), shows_trap(both, Trap({"": 5, "0": 1, "1": 1})), shows_trap(both, Trap({"0": 1, "1": 1})), shows_trap(both, Trap({"": 1, "0": 1, "1": 1}))]
+[True, True, False, False]
 >>> judged("01")
 raises BadSetting('setting')
 '''
 
-ORDER = (BARS, MOVES_MENUS_PRICES, SETTINGS, RULES_CODING, TRAPS)
+RATES = r'''
+>>> from flagfree.look_rates import shows_numbers, shows_ring, shows_worst
+>>> from flagfree.prices import Rate
+>>> from flagfree.rates import Worst, bound, content_for, worst
+>>> found = worst(five, table)
+>>> [str(found.rate), found.numbers["1"], found.numbers["11111"], found.begin, found.ring, shows_worst(five, table, found)]
+['6/5', 1, 5, '1', '11111', True]
+>>> [bound(five, table, 6), paid(table, five, content_for(five, found, 12)), shows_ring(five, table, Rate(1, 1), "", "0"), shows_numbers(five, table, Rate(1, 1), found.numbers)]
+[7, 19, True, False]
+>>> eager = Table({"": plain, "1": Put("0")})
+>>> [str(worst(five, eager).rate), worst(five, eager).numbers, str(worst(five, Table({"": plain, "1": Put("1"), "11": Put("0")})).rate)]
+['2', {'': 0, '1': 1}, '3']
+>>> worst(Setting(Bars("01", "111")), Table({"": Put("0")}))
+raises BadTable('')
+'''
+
+LEAST = r'''
+>>> from flagfree.least import Least, can_keep, least, least_rate
+>>> from flagfree.look_least import shows_forces, shows_keeps, shows_least
+>>> from flagfree.menus import Menu
+>>> from flagfree.moves import Code, Put
+>>> from flagfree.prices import Rate
+>>> from flagfree.rules import Table
+>>> ones = Setting(Bars("01", "111111"))
+>>> found = least(ones)
+>>> [str(found.rate), shows_least(ones, found), least_rate(late) == Rate(2, 1), bool(least(both)), least_rate(both)]
+['6/5', True, True, False, None]
+>>> steps = {"1" * k: k for k in range(6)}
+>>> plain = {"1" * k: Code.plain("01") for k in range(5)}
+>>> [shows_keeps(ones, Rate(6, 5), Table({**plain, "11111": Put("0")}), steps), shows_forces(ones, Rate(6, 5), steps, {}), can_keep(ones, Rate(7, 6))]
+[True, True, False]
+>>> [str(least_rate(ones, fixed={"111": Put("0")})), least_rate(ones, fixed={"": Put("1")}) == Rate(2, 1), least_rate(ones, fixed={"11111": Code.plain("01")}) == Rate(5, 4)]
+['4/3', True, True]
+'''
+
+BEST = r'''
+>>> from flagfree.bars import Bars
+>>> from flagfree.best import best_tables, count_best, fewest_moves, first_best, is_best, least_moves, nearest_best, needless_moves
+>>> from flagfree.moves import Code, Put
+>>> from flagfree.rules import Table
+>>> from flagfree.settings import Setting
+>>> three = Setting(Bars("012", "00"))
+>>> plain = Code.plain("012")
+>>> [count_best(three), first_best(three) == Table({"": plain, "0": Put("1")}), [table["0"] == Put("2") for table in best_tables(three)]]
+[2, True, [False, True]]
+>>> [least_moves(three, "0") == (Put("1"), Put("2")), least_moves(three, "") == (plain,)]
+[True, True]
+>>> [needless_moves(three) == (Put("0"), Put("1"), Put("2")), list(fewest_moves(three)) == [plain, Put("1")], nearest_best(three, Table({"0": Put("2")}))[1]]
+[True, True, 1]
+>>> [is_best(three, Table({"": plain, "0": Put("2"), "7": plain})), is_best(three, Table({"": plain, "0": plain})), is_best(three, None)]
+[True, False, False]
+>>> first_best(Setting(Bars("01", "00", "11")))
+raises NoWay('')
+'''
+
+SIZES = r'''
+>>> from flagfree.look_sizes import shows_round, shows_sizes
+>>> from flagfree.sizes import Round, Sizes, best_moves, reply, round_of, size, sizes
+>>> [[row[""] for row in sizes(ones, 11).rows], round_of(ones) == Round(1, 5, 6, ones.bars.ends), size(ones, 10 ** 29) == 10 ** 29 + (10 ** 29 - 1) // 5]
+[[0, 1, 2, 3, 4, 5, 7, 8, 9, 10, 11, 13], True, True]
+>>> [best_moves(ones, 1, "11111") == (Put("0"),), reply(ones, 3, "1111", Code.plain("01")), size(both, 1), size(both, 2), size(both, 10 ** 20)]
+[True, '1', 1, None, None]
+>>> unlike = Setting(Bars("01", "0011", "00101"))
+>>> [[sizes(unlike, 5).rows[n][end] for n in range(6)] for end in ("", "00")]
+[[0, 1, 2, 3, 5, 7], [0, 1, 4, 7, 10, 13]]
+>>> [size(unlike, 100), shows_round(ones, Round(6, 5, 6, ("", "1", "11")), sizes(ones, 11)), shows_sizes(ones, sizes(ones, 11))]
+[197, False, True]
+>>> round_of(both)
+raises NoRound(200)
+'''
+
+FOE = r'''
+>>> from flagfree.foe import Caught, Foe, Game, shows_game
+>>> from flagfree.rules import By, Late, Table
+>>> foe = Foe(pair)
+>>> [str(foe.found.rate), foe.play(Late(), 3) == Game("111", "10101", 5), foe.floor(3) <= 5, foe.next_sign("", Code.plain("01")), foe.next_sign("1", Put("0"))]
+['2', True, True, '1', None]
+>>> rash = By(lambda sent, setting: Code.plain("01"))
+>>> [foe.play(rash, 9) == Caught("11", "11", "word"), [price for content, text, price in foe.walk(rash)], shows_game(pair, rash, Caught("11", "11", "word"))]
+[True, [1], True]
+>>> both = Setting(Bars("01", "00", "11"))
+>>> lost = Foe(both).play(Table({"": Code.plain("01"), "0": Put("1"), "1": Put("0")}), 5)
+>>> [lost.content, lost.why, len(lost.sent), lost.sent[:5], bool(lost), Foe(both).floor(5)]
+['0', 'puts', 102, '01010', False, None]
+>>> foe.play(Late(), 0)
+raises BadNumber(0)
+'''
+
+ORDER = (BARS, MOVES_MENUS_PRICES, SETTINGS, RULES_CODING, TRAPS, RATES, LEAST, BEST, SIZES, FOE)
 
 
 class ExamplesTest(unittest.TestCase):
@@ -128,7 +217,7 @@ class ExamplesTest(unittest.TestCase):
                 elif line.startswith(">>> "):
                     self.check_value(line[len(">>> "):], row, names)
                     many += 1
-        self.assertEqual(many, 29)
+        self.assertEqual(many, 50)
 
 
 if __name__ == "__main__":

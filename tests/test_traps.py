@@ -9,28 +9,10 @@ from flagfree.moves import Code, Put
 from flagfree.prices import Prices
 from flagfree.settings import Setting
 from flagfree.traps import Open, Trap, judged, open_ends, rounds
-from oracles import slow_rounds, told_moves
-from samples import some_settings
+from oracles import is_trap, slow_rounds, told_moves
+from samples import some_fixed, some_settings
 
 PLAIN = Code.plain("01")
-
-
-def some_fixed(draw, setting):
-    """A dict from some ends to moves of the menu."""
-    if len(setting.menu) == 0:
-        return {}
-    return {end: draw.choice(setting.menu.moves) for end in setting.bars.ends if draw.random() < 0.3}
-
-
-def is_trap(setting, fixed, trap):
-    """Whether a dict is a trap by its definition."""
-    for end, turn in trap.items():
-        for move in told_moves(setting, fixed, end):
-            behind = [outcome[2] for outcome in setting.outcomes(end, move)]
-            most = turn if isinstance(move, Put) else turn - 1
-            if not any(one is None or one in trap and trap[one] <= most for one in behind):
-                return False
-    return True
 
 
 class TrapsTest(unittest.TestCase):
