@@ -27,7 +27,9 @@ def ends_of(words):
 
 def onward_ends(signs, words, ends):
     """The dict from each end to the dict from each sign to the end behind both, None if a word is completed."""
-    known = {**{end: end for end in ends}, **{word: None for word in words}}
+    known = {end: end for end in ends}
+    for word in words:
+        known[word] = None
     found = {}
     shorter = {}
     for end in sorted(ends, key=len):

@@ -94,8 +94,8 @@ def kept_lot(lot, leads, start):
     left = lot
     while start in left:
         fewer = left
-        for row in leads:
-            fewer = {end: True for end in fewer if stays_at(row, end, fewer)}
+        for told in leads:
+            fewer = {end: True for end in fewer if stays_at(told, end, fewer)}
         if len(fewer) == len(left):
             return left
         left = fewer
