@@ -101,9 +101,6 @@ def count_best(setting):
 
 def is_best(setting, table):
     """Whether a value is a Table that pays the least rate, whatever it tells at ends that do not come."""
-    check_setting(setting)
-    if not isinstance(table, Table):
-        return False
     try:
         found = worst(setting, table)
     except (Stuck, BadTable):

@@ -95,8 +95,6 @@ class Foe:
 
     def next_sign(self, sent, move):
         """The content sign for a rule that tells this move behind this text, None for a put."""
-        if not is_text(sent, self.setting.bars.signs):
-            raise BadSent(sent)
         end = self.setting.bars.behind(self.setting.start, sent)
         if end is None:
             raise BadSent(sent)
@@ -187,6 +185,7 @@ def shows_game(setting, rule, value):
         if course.why is not None or not is_integer(value.price):
             return False
         return course.sent == value.sent and course.price == value.price
-    if course.why is None and course.next_code() is not None:
+    # Where the rule is caught already, it is not asked on.
+    if course.next_code() is not None:
         return False
     return course.content == value.content and course.sent == value.sent and course.why == value.why

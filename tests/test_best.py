@@ -90,6 +90,13 @@ class BestTablesTest(unittest.TestCase):
         told = [(table["00"].sign, table["3"].sign) for table in found if "00" in table]
         self.assertEqual(told[:4], [("1", "0"), ("1", "1"), ("1", "2"), ("2", "0")])
 
+    def test_ends_of_unlike_rates(self):
+        unlike = Setting(Bars("01", "0011", "00101"))
+        for start in unlike.bars.ends:
+            setting = unlike.with_start(start)
+            self.assertEqual(list(best_tables(setting)), slow_best(setting))
+        self.assertEqual(list(best_tables(unlike)), [Table({"": PLAIN, "0": Put("1")})])
+
     def test_the_201st_one(self):
         found = best_tables(MANY)
         rows = [next(found) for _ in range(200)]

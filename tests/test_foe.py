@@ -132,6 +132,15 @@ class NextSignTest(unittest.TestCase):
         late = Foe(Setting(Bars("01", "110", "111")))
         self.assertEqual(late.next_sign("1", PLAIN), "1")
 
+    def test_ends_of_a_lesser_rate_have_no_number(self):
+        setting = Setting.read("012 : 011 02 / 012 : code 0 21 1 122 2 22 ; code 0 200 1 212 2 0 ; put 0 ; put 1 / "
+                               "012 : 1 1 1 / 1 1 1 / 0")
+        foe = Foe(setting)
+        self.assertEqual((str(foe.found.rate), sorted(foe.found.against)), ("4", ["0", "01"]))
+        for code in setting.menu.codes:
+            self.assertEqual([foe.next_sign(sent, code) for sent in ("12", "1222", "1221")], ["0", "0", "0"])
+        self.assertEqual(foe.next_sign("1", setting.menu.codes[0]), slow_sign(foe, "01", setting.menu.codes[0], {}))
+
     def test_ends_without_a_number(self):
         for setting in open_settings(mixed_settings(120)):
             foe, lost = Foe(setting), slow_rounds(setting)

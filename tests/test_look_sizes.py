@@ -109,6 +109,16 @@ class ShowsRoundTest(unittest.TestCase):
                       Round(1, 5, 6, ()), Round(10 ** 29, 10 ** 29, 6, ends), Round(10 ** 29, 5, 6, ends)):
             self.assertIs(shows_round(ONES, value, told), False)
 
+    def test_an_end_that_gains_less(self):
+        setting = Setting.read("01 : 0110 / 01 : code 0 0 1 1 ; put 0 / 01 : 1 2 / 1 1 / 01")
+        told = sizes(setting, 7)
+        # From 0 and 01 three more are paid at the third sign, and their moves stay there; but two from the empty end.
+        self.assertEqual([row["01"] for row in told.rows], [0, 2, 5, 8, 11, 14, 17, 20])
+        self.assertEqual([row[""] for row in told.rows], [0, 2, 4, 6, 8, 11, 14, 17])
+        self.assertIs(shows_round(setting, Round(2, 1, 3, ("0", "01")), told), False)
+        self.assertIs(shows_round(setting, Round(4, 1, 3, ("0", "01")), told), True)
+        self.assertEqual(round_of(setting), Round(4, 1, 3, ("", "0", "01")))
+
     def test_too_few_rows(self):
         found = round_of(ONES)
         for n in range(12):
