@@ -57,8 +57,8 @@ class Course:
         self.end = setting.start
         self.why = None
 
-    def _send(self, sign, text):
-        """Send a text for a content sign, None for a put."""
+    def _send(self, text):
+        """Send a text, that of a put or the word of a code."""
         self.price = self.price + self.setting.prices.cost(text)
         self.sent = self.sent + text
         self.end = self.setting.bars.onward(self.end, text)
@@ -72,7 +72,7 @@ class Course:
             move = told_move(self.rule, self.sent, len(self.sent), self.end, self.setting)
             if not isinstance(move, Put):
                 return move
-            self._send(None, move.sign)
+            self._send(move.sign)
             puts = puts + 1
             if puts > MOST_PUTS and self.why is None:
                 self.why = "puts"
@@ -81,7 +81,7 @@ class Course:
     def tell(self, code, sign):
         """Tell a content sign to a rule that told this code."""
         self.content = self.content + sign
-        self._send(sign, code[sign])
+        self._send(code[sign])
 
 
 class Foe:
