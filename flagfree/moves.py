@@ -78,6 +78,10 @@ class Move:
         """Whether it is a move of an alphabet: a move that is neither put nor code is of none."""
         return False
 
+    def is_within(self, signs):
+        """Whether it is a move of what is known to be an alphabet."""
+        return False
+
     def changed(self, table):
         """The move with each sign exchanged: nothing is known of one that is neither put nor code."""
         raise BadMove("table")
@@ -99,7 +103,11 @@ class Put(Move):
 
     def is_of(self, signs):
         """Whether its sign is one of an alphabet."""
-        return is_alphabet(signs) and self.sign in signs
+        return is_alphabet(signs) and self.is_within(signs)
+
+    def is_within(self, signs):
+        """Whether its sign is one of these."""
+        return self.sign in signs
 
     def changed(self, table):
         """The put of the sign that this one is exchanged for."""
@@ -116,6 +124,8 @@ class Code(Move):
         content = sorted([str(sign) for sign in words])
         self.words = tuple([(sign, words[sign]) for sign in content])
         self._word_of = {sign: word for sign, word in self.words}
+        self._content = "".join(content)
+        self._sent = "".join([word for _, word in self.words])
 
     @staticmethod
     def plain(signs):
@@ -168,9 +178,11 @@ class Code(Move):
 
     def is_of(self, signs):
         """Whether it has a word of an alphabet for just its signs."""
-        if not is_alphabet(signs) or "".join([sign for sign, _ in self.words]) != signs:
-            return False
-        return all([is_text(word, signs) for _, word in self.words])
+        return is_alphabet(signs) and self.is_within(signs)
+
+    def is_within(self, signs):
+        """Whether it has a word of these signs for just these signs."""
+        return self._content == signs and is_text(self._sent, signs)
 
     def changed(self, table):
         """The code with each sign exchanged, content signs too."""

@@ -21,6 +21,13 @@ def told_outcomes(bars, end, move):
     return tuple([(sign, text, bars.onward(end, text)) for sign, text in pairs])
 
 
+def is_free_move(bars, end, move):
+    """Whether no outcome of a move of the alphabet at an end of the bars completes a barred word."""
+    if isinstance(move, Put):
+        return bars.onward(end, move.sign) is not None
+    return all([bars.onward(end, word) is not None for _, word in move.words])
+
+
 def take_alphabet(cursor, signs):
     """Take the alphabet that the bars of a setting have, and the colon behind it."""
     cursor.expect(signs)
@@ -52,6 +59,8 @@ class Setting:
         self.menu = Menu.plain(bars.signs) if menu is None else menu
         self.prices = Prices(bars.signs) if prices is None else prices
         self.start = start
+        # The moves that are let at the ends at which they were asked for: found once, as a Setting never changes.
+        self._let = {}
 
     @classmethod
     def read(cls, text):
@@ -79,23 +88,31 @@ class Setting:
             return False
         return self.bars == other.bars and self.menu == other.menu and self.prices == other.prices
 
-    def outcomes(self, end, move):
-        """The triples (content sign, text, end behind) of a move at an end."""
+    def _check_move(self, end, move):
+        """See that these are an end of the bars and a move of the alphabet."""
         if end not in self.bars.ends:
             raise NoEnd(end)
-        if not isinstance(move, Move) or not move.is_of(self.bars.signs):
+        if not isinstance(move, Move) or not move.is_within(self.bars.signs):
             raise BadMove("menu")
+
+    def outcomes(self, end, move):
+        """The triples (content sign, text, end behind) of a move at an end."""
+        self._check_move(end, move)
         return told_outcomes(self.bars, end, move)
 
     def is_fit(self, end, move):
         """Whether no outcome of a move at an end completes a barred word."""
-        return all([behind is not None for _, _, behind in self.outcomes(end, move)])
+        self._check_move(end, move)
+        return is_free_move(self.bars, end, move)
 
     def let(self, end):
         """The moves of the menu that are fit at an end."""
+        if isinstance(end, str) and end in self._let:
+            return self._let[end]
         if end not in self.bars.ends:
             raise NoEnd(end)
-        return tuple([move for move in self.menu.moves if self.is_fit(end, move)])
+        self._let[end] = tuple([move for move in self.menu.moves if is_free_move(self.bars, end, move)])
+        return self._let[end]
 
     def with_bars(self, bars):
         """The setting with other bars."""

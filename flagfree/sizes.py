@@ -168,7 +168,7 @@ def reply(setting, n, end, move):
     if n == 0:
         raise BadNumber(0)
     if move not in setting.menu:
-        raise BadMove("menu")
+        raise BadMove("move")
     if isinstance(move, Put):
         return None
     row = Rows(setting).all_to(n - 1)[n - 1]

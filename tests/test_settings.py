@@ -8,7 +8,7 @@ from flagfree.moves import Code, Put
 from flagfree.prices import Prices
 from flagfree.settings import Setting
 from oracles import setting_complete, setting_stands, slow_end
-from samples import moves_of, some_settings
+from samples import large_setting, moves_of, some_settings
 
 PLAIN = Code.plain("01")
 LONG = Code({"0": "011", "1": "10"})
@@ -73,6 +73,36 @@ class SettingTest(unittest.TestCase):
             for end in setting.bars.ends:
                 fit = tuple(move for move in setting.menu.moves if setting.is_fit(end, move))
                 self.assertTrue(same(setting.let(end), fit))
+
+    def test_let_asked_again_and_again(self):
+        turned = Code.chosen("012", {"0": "1", "1": "2", "2": "1"})
+        menu = Menu("012", turned, Code.plain("012"), Put("0"), Put("1"), Put("2"))
+        bars = Bars("012", "000", "0010", "0011", "0012", "0021", "0022")
+        for setting in [Setting(bars, menu), Setting(bars, menu - Menu("012", turned)), large_setting()]:
+            words = setting.bars.words
+            fit = {}
+            for end in setting.bars.ends:
+                for move in setting.menu.moves:
+                    sent = [move.sign] if isinstance(move, Put) else [word for _, word in move.words]
+                    if all(slow_end(end + text, words) is not None for text in sent):
+                        fit.setdefault(end, []).append(move)
+            for _ in range(2000):
+                for end in setting.bars.ends:
+                    if setting.let(end) != tuple(fit.get(end, [])):
+                        self.fail(f"{setting}: {end!r}")
+            for end in setting.bars.ends:
+                self.assertTrue(same(setting.let(end), tuple(fit.get(end, []))))
+                for move in setting.menu.moves:
+                    for _ in range(20):
+                        self.assertIs(setting.is_fit(end, move), move in fit.get(end, []))
+
+    def test_let_of_settings_that_are_alike(self):
+        setting = Setting(Bars("01", "11"))
+        self.assertEqual(setting.let("1"), (Put("0"),))
+        self.assertEqual(setting.with_menu(Menu("01", Put("1"))).let("1"), ())
+        self.assertEqual(setting.with_bars(Bars("01", "101")).let("1"), (PLAIN, Put("0"), Put("1")))
+        self.assertEqual(setting.with_start("1").let("1"), (Put("0"),))
+        self.assertEqual(setting, Setting(Bars("01", "11")))
 
     def test_outcomes_by_hand(self):
         setting = Setting(Bars("01", "11"), Menu("01", PLAIN))

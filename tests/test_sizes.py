@@ -248,9 +248,9 @@ class ErrorsTest(unittest.TestCase):
             refuses(self, BadEnd(value), reply, ONES, 0, value, None)
             refuses(self, BadEnd(value), reply, ONES, 400, value, None)
         for value in others(lambda value: value in list(ONES.menu)) + [Put("2"), Code({"0": "1", "1": "0"})]:
-            refuses(self, BadMove("menu"), reply, ONES, 1, "", value)
+            refuses(self, BadMove("move"), reply, ONES, 1, "", value)
             refuses(self, BadNumber(0), reply, ONES, 0, "", value)
-        refuses(self, BadMove("menu"), reply, ONES.with_menu(Menu("01", PLAIN)), 1, "", Put("0"))
+        refuses(self, BadMove("move"), reply, ONES.with_menu(Menu("01", PLAIN)), 1, "", Put("0"))
 
 
 class PapersTest(unittest.TestCase):
