@@ -65,3 +65,36 @@ def greatest_ring(graph):
             return rate, numbers, best
         rate = rate_of_ring(ring)
         best = ring
+
+
+def graph_from(start, outcomes_at, most):
+    """The graph of the nodes that come from a start on, in the order in which they are first met; None if too many.
+
+    outcomes_at tells the outcomes of a node.
+    """
+    graph = {}
+    met = {start: True}
+    nodes = [start]
+    at = 0
+    while at < len(nodes):
+        graph[nodes[at]] = outcomes_at(nodes[at])
+        for _, _, _, behind in graph[nodes[at]]:
+            if behind not in met:
+                met[behind] = True
+                nodes.append(behind)
+        if len(nodes) > most:
+            return None
+        at = at + 1
+    return graph
+
+
+def gone(graph, node, content):
+    """The price of what is sent for a content from a node on, and the node behind it; each outcome has a sign."""
+    price = 0
+    for sign in content:
+        for one, more, _, behind in graph[node]:
+            if one == sign:
+                price = price + more
+                node = behind
+                break
+    return price, node

@@ -3,8 +3,10 @@
 from flagfree import errors
 from flagfree.bars import Bars
 from flagfree.coding import Step
+from flagfree.compared import Behind, Never
 from flagfree.foe import Caught, Foe, Game
 from flagfree.least import Least
+from flagfree.links import Receiver, Sender
 from flagfree.menus import Menu
 from flagfree.moves import Code, Put
 from flagfree.prices import Prices, Rate
@@ -12,6 +14,7 @@ from flagfree.rates import Worst
 from flagfree.rules import By, Late, Table
 from flagfree.settings import Setting
 from flagfree.sizes import Round, Sizes
+from flagfree.stacks import Layer, Stack
 from flagfree.traps import Open, Trap
 
 FIELDS = {
@@ -23,6 +26,10 @@ FIELDS = {
     "NoEnd": ("end",), "TooMany": ("what", "most"), "NoWay": ("end",), "NoRound": ("most",),
     "Stuck": ("end",), "Refused": ("at",), "NoChange": (),
 }
+
+
+FREE = Setting(Bars("01"))
+FREE_TABLE = Table({"": Code({"0": "0", "1": "1"})})
 
 
 def nested(depth):
@@ -48,6 +55,8 @@ def values():
         Trap({"": 1}), Step(Put("0"), None, "0", 1), errors.BadSign("0"), errors.NoChange(),
         Worst(Rate(2), {"": 0}, "", "0"), Least(Rate(2), Table({}), {"": 0}, {"": 0}, {}), Sizes(({"": 0},)),
         Round(0, 1, 1, ("",)), Game("", "", 0), Caught("1", "1", "word"), Foe(Setting(Bars("01", "11"))),
+        Never(0, {("", ""): 0}, ""), Behind("", "1"), Layer(FREE, FREE_TABLE), Stack(Layer(FREE, FREE_TABLE)),
+        Sender(FREE, FREE_TABLE), Receiver(FREE, FREE_TABLE), Sender(FREE, FREE_TABLE).trial(),
     ]
 
 

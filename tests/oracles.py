@@ -476,3 +476,75 @@ def greatest_lot(setting, first, step, rows):
             if is_round(setting, first, step, gain, lot, rows):
                 found |= set(lot)
     return (gain, tuple(sorted(found))) if found else None
+
+
+# What a table that sends all contents sends, sign by sign.
+
+def price_of(setting, text):
+    return sum(setting.prices.price_of(sign) for sign in text)
+
+
+def weight_of(setting, content):
+    return sum(setting.prices.weight_of(sign) for sign in content)
+
+
+def sends_all(setting, moves):
+    """Whether the moves of a table send all contents."""
+    come, stuck = come_by(setting, moves)
+    return stuck is None and endless(setting, moves, come) is None
+
+
+def plain_turn(setting, moves, end, sign):
+    """What is sent for a content sign from an end on, puts included, and the end behind it."""
+    sent = ""
+    while isinstance(moves[end], Put):
+        sent += moves[end].sign
+        end = slow_end(end + moves[end].sign, setting.bars.words)
+    word = dict(moves[end].words)[sign]
+    return sent + word, slow_end(end + word, setting.bars.words)
+
+
+def plain_sent(setting, moves, end, content):
+    """What is sent for a content from an end on, and the end behind it."""
+    sent = ""
+    for sign in content:
+        more, end = plain_turn(setting, moves, end, sign)
+        sent += more
+    return sent, end
+
+
+# Two tables, by the pairs of their ends.
+
+def excess_rows(setting, one, other):
+    """The dict from the pairs of ends that come behind contents to the rows (sign, excess, pair behind)."""
+    pairs = [(setting.start, setting.start)]
+    rows = {}
+    for pair in pairs:
+        rows[pair] = []
+        for sign in setting.bars.signs:
+            sent, end = plain_turn(setting, one, pair[0], sign)
+            less, behind = plain_turn(setting, other, pair[1], sign)
+            rows[pair].append((sign, price_of(setting, sent) - price_of(setting, less), (end, behind)))
+            if (end, behind) not in pairs:
+                pairs.append((end, behind))
+    return rows
+
+
+def plain_excess(rows, pair, content):
+    """The excess of a content from a pair on, and the pair behind it."""
+    excess = 0
+    for sign in content:
+        _, more, pair = rows[pair]["".join(row[0] for row in rows[pair]).index(sign)]
+        excess += more
+    return excess, pair
+
+
+def greatest_sums(rows):
+    """The least numbers from 0 on that keep to rows, None if they grow for ever."""
+    numbers = dict.fromkeys(rows, 0)
+    for _ in range(len(rows) + 1):
+        further = {pair: max([0] + [more + numbers[behind] for _, more, behind in rows[pair]]) for pair in rows}
+        if further == numbers:
+            return numbers
+        numbers = further
+    return None

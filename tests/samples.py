@@ -8,7 +8,7 @@ from flagfree.moves import Code, Put
 from flagfree.prices import Prices
 from flagfree.rules import Table
 from flagfree.settings import Setting
-from oracles import slow_rounds, texts
+from oracles import sends_all, slow_rounds, texts
 
 
 def moves_of(signs):
@@ -98,3 +98,32 @@ def large_setting():
     bars = Bars("0123", "00001000", "11112", "222302", "3330", "120120", "03")
     menu = Menu("0123", *codes, *[Put(sign) for sign in "0123"])
     return Setting(bars, menu, Prices("0123", {"0": 9, "1": 7, "2": 8, "3": 5}, {"0": 7, "1": 9, "2": 5, "3": 8}))
+
+
+def sound_tables(draw, setting, many):
+    """Tables that send all contents, perhaps none; some tell moves at all ends, some at few."""
+    lost = slow_rounds(setting)
+    rows = []
+    for _ in range(6 * many):
+        moves = {}
+        for end in setting.bars.ends:
+            safe = [move for move in setting.let(end)
+                    if not any(behind in lost for _, _, behind in setting.outcomes(end, move))]
+            codes = [move for move in safe if isinstance(move, Code)]
+            if safe:
+                moves[end] = draw.choice(codes if codes and draw.random() < 0.7 else safe)
+        if sends_all(setting, moves) and len(rows) < many:
+            rows.append(Table(moves))
+    return rows
+
+
+def table_pairs(many, seed=71):
+    """Settings with two tables each that send all contents, some of them alike."""
+    draw = random.Random(seed)
+    rows = []
+    for setting in open_settings(mixed_settings(many, seed) + some_settings(many)):
+        tables = sound_tables(draw, setting, 3)
+        if tables:
+            rows.append((setting, tables[0], draw.choice(tables)))
+            rows.append((setting, tables[-1], tables[0]))
+    return rows
