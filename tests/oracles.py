@@ -548,3 +548,60 @@ def greatest_sums(rows):
             return numbers
         numbers = further
     return None
+
+
+# Stacks, layer by layer; layers are pairs (setting, moves), the innermost one first.
+
+def stack_turn(layers, ends, sign):
+    """What the outermost layer sends for a content sign, and the ends of all layers behind it."""
+    text, behind = sign, []
+    for (setting, moves), end in zip(layers, ends):
+        text, end = plain_sent(setting, moves, end, text)
+        behind.append(end)
+    return text, tuple(behind)
+
+
+def stack_rows(layers, most=10 ** 6):
+    """The dict from the tuples of ends that come to the rows (sign, price, weight, tuple behind); None if too many."""
+    tuples = [tuple(setting.start for setting, _ in layers)]
+    rows = {}
+    for ends in tuples:
+        rows[ends] = []
+        for sign in layers[0][0].bars.signs:
+            text, behind = stack_turn(layers, ends, sign)
+            rows[ends].append((sign, price_of(layers[-1][0], text), weight_of(layers[0][0], sign), behind))
+            if behind not in rows and behind not in tuples:
+                tuples.append(behind)
+        if len(tuples) > most:
+            return None
+    return rows
+
+
+def greatest_rate(rows):
+    """The greatest rate of a ring of rows, by the sums of walks of up to as many signs as there are nodes."""
+    found = Fraction(0)
+    for first in rows:
+        best = {(first, 0): 0}
+        for _ in range(len(rows)):
+            further = {}
+            for (node, heavy), price in best.items():
+                for _, more, weight, behind in rows[node]:
+                    key = (behind, heavy + weight)
+                    further[key] = max(further.get(key, 0), price + more)
+            best = further
+            for (node, heavy), price in best.items():
+                if node == first:
+                    found = max(found, Fraction(price, heavy))
+    return found
+
+
+def rate_numbers(rows, price, weight):
+    """The least numbers from 0 on that keep a rate by rows, None if there are none."""
+    numbers = dict.fromkeys(rows, 0)
+    for _ in range(len(rows) + 1):
+        further = {node: max([0] + [weight * cost - price * heavy + numbers[behind]
+                                    for _, cost, heavy, behind in rows[node]]) for node in rows}
+        if further == numbers:
+            return numbers
+        numbers = further
+    return None
