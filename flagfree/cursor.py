@@ -5,12 +5,13 @@ from flagfree.signs import is_alphabet
 
 
 class Cursor:
-    """Stands ahead of the next word of a text whose words are parted at single spaces."""
+    """Stands ahead of the next word of a text, or of a row of a text, whose words are parted at single spaces."""
 
-    def __init__(self, text):
+    def __init__(self, text, row=0):
         if not isinstance(text, str):
-            raise BadText(0, 0)
+            raise BadText(row, 0)
         self.words = text.split(" ")
+        self.row = row
         self.at = 0
 
     def peek(self):
@@ -22,7 +23,7 @@ class Cursor:
     def take(self, stands):
         """The next word, and on to the one behind it; stands tells whether it can stand here."""
         if not stands:
-            raise BadText(0, self.at)
+            raise BadText(self.row, self.at)
         self.at = self.at + 1
         return self.words[self.at - 1]
 
@@ -33,7 +34,7 @@ class Cursor:
     def finish(self):
         """See that no word is left."""
         if self.at < len(self.words):
-            raise BadText(0, self.at)
+            raise BadText(self.row, self.at)
 
 
 def take_signs(cursor):

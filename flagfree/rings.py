@@ -92,9 +92,7 @@ def gone(graph, node, content):
     """The price of what is sent for a content from a node on, and the node behind it; each outcome has a sign."""
     price = 0
     for sign in content:
-        for one, more, _, behind in graph[node]:
-            if one == sign:
-                price = price + more
-                node = behind
-                break
+        fits = [(more, behind) for one, more, _, behind in graph[node] if one == sign]
+        price = price + fits[0][0]
+        node = fits[0][1]
     return price, node

@@ -64,6 +64,14 @@ def take_rows(cursor):
         cursor.expect(";")
 
 
+def take_table(cursor):
+    """Take the text of a Table, up to its last word: the dict from its ends to their moves."""
+    if cursor.words[cursor.at:] == ["table"]:
+        cursor.take(True)
+        return {}
+    return take_rows(cursor)
+
+
 class Rule:
     """The base of rules; it is not made itself."""
 
@@ -100,9 +108,7 @@ class Table(Rule):
     def read(cls, text):
         """The Table with this text."""
         cursor = Cursor(text)
-        if text == "table":
-            return Table({})
-        told = take_rows(cursor)
+        told = take_table(cursor)
         cursor.finish()
         return Table(told)
 

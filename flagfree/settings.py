@@ -43,6 +43,25 @@ def take_start(cursor, words):
     return cursor.take(cursor.peek() != "" and cursor.peek() in ends)
 
 
+def take_setting(cursor):
+    """Take the text of a Setting: the tuple of what made_setting makes it of."""
+    signs, words = take_bars(cursor)
+    cursor.expect("/")
+    take_alphabet(cursor, signs)
+    moves = take_moves(cursor, signs)
+    cursor.expect("/")
+    take_alphabet(cursor, signs)
+    prices = take_prices(cursor, signs)
+    cursor.expect("/")
+    return signs, words, moves, prices, take_start(cursor, words)
+
+
+def made_setting(signs, words, moves, prices, start):
+    """The Setting of what was taken from a text: only now the classes may refuse it, behind all wrong words."""
+    bars = Bars(signs, *words)
+    return Setting(bars, Menu(signs, *moves), prices, start)
+
+
 class Setting:
     """What may not be sent, which moves there are, what signs cost and weigh, where the text begins."""
 
@@ -66,19 +85,9 @@ class Setting:
     def read(cls, text):
         """The Setting with this text."""
         cursor = Cursor(text)
-        signs, words = take_bars(cursor)
-        cursor.expect("/")
-        take_alphabet(cursor, signs)
-        moves = take_moves(cursor, signs)
-        cursor.expect("/")
-        take_alphabet(cursor, signs)
-        prices = take_prices(cursor, signs)
-        cursor.expect("/")
-        start = take_start(cursor, words)
+        told = take_setting(cursor)
         cursor.finish()
-        # Only now may the classes refuse what was read: a wrong word is told ahead of it.
-        bars = Bars(signs, *words)
-        return Setting(bars, Menu(signs, *moves), prices, start)
+        return made_setting(*told)
 
     def __str__(self):
         return " / ".join([str(self.bars), str(self.menu), str(self.prices), self.start or "-"])

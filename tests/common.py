@@ -4,9 +4,12 @@ from flagfree import errors
 from flagfree.bars import Bars
 from flagfree.coding import Step
 from flagfree.compared import Behind, Never
+from flagfree.desk import Desk
+from flagfree.flags import Chosen
 from flagfree.foe import Caught, Foe, Game
 from flagfree.least import Least
 from flagfree.links import Receiver, Sender
+from flagfree.logs import Clash, Log
 from flagfree.menus import Menu
 from flagfree.moves import Code, Put
 from flagfree.prices import Prices, Rate
@@ -57,6 +60,7 @@ def values():
         Round(0, 1, 1, ("",)), Game("", "", 0), Caught("1", "1", "word"), Foe(Setting(Bars("01", "11"))),
         Never(0, {("", ""): 0}, ""), Behind("", "1"), Layer(FREE, FREE_TABLE), Stack(Layer(FREE, FREE_TABLE)),
         Sender(FREE, FREE_TABLE), Receiver(FREE, FREE_TABLE), Sender(FREE, FREE_TABLE).trial(),
+        Chosen(("0",), Rate(1)), Clash(None), Clash(("", ())), Log(FREE), Log(FREE, ("0", "0")), Desk(),
     ]
 
 

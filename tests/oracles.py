@@ -605,3 +605,64 @@ def rate_numbers(rows, price, weight):
             return numbers
         numbers = further
     return None
+
+
+# Logs, gone through from the start again for each table.
+
+def goes_through(setting, moves, pairs):
+    """("all", None) if moves send all pairs as they were, ("ask", end) where they lack a move, ("bad", index)."""
+    for at, (content, text) in enumerate(pairs):
+        sent, end, signs = "", setting.start, 0
+        while signs < len(content):
+            if end not in moves:
+                return "ask", end
+            move = moves[end]
+            word = move.sign if isinstance(move, Put) else dict(move.words)[content[signs]]
+            signs += not isinstance(move, Put)
+            sent, end = sent + word, slow_end(end + word, setting.bars.words)
+            if not text.startswith(sent):
+                return "bad", at
+        if sent != text:
+            return "bad", at
+    return "all", None
+
+
+def is_fit(setting, end, move):
+    words = [move.sign] if isinstance(move, Put) else [word for _, word in move.words]
+    return all(slow_end(end + word, setting.bars.words) is not None for word in words)
+
+
+def slow_told(setting, pairs, moves=None):
+    """The moves of all tables that fit, in their order."""
+    moves = moves or {}
+    why, end = goes_through(setting, moves, pairs)
+    if why == "all":
+        yield moves
+    if why == "ask":
+        for move in setting.menu.moves:
+            if is_fit(setting, end, move):
+                yield from slow_told(setting, pairs, {**moves, end: move})
+
+
+def slow_tree(setting, pairs, moves=None):
+    """The tree for some moves with which no table fits."""
+    moves = moves or {}
+    why, end = goes_through(setting, moves, pairs)
+    if why == "bad":
+        return None
+    return end, tuple(slow_tree(setting, pairs, {**moves, end: move}) if is_fit(setting, end, move) else None
+                      for move in setting.menu.moves)
+
+
+def is_clash(setting, pairs, tree, moves=None):
+    """Whether a value is the tree for some moves with which no table fits."""
+    moves = moves or {}
+    why, end = goes_through(setting, moves, pairs)
+    if why != "ask":
+        return why == "bad" and tree is None
+    if type(tree) is not tuple or len(tree) != 2 or type(tree[0]) is not str or tree[0] != end:
+        return False
+    if type(tree[1]) is not tuple or len(tree[1]) != len(setting.menu.moves):
+        return False
+    return all(is_clash(setting, pairs, branch, {**moves, end: move}) if is_fit(setting, end, move) else branch is None
+               for move, branch in zip(setting.menu.moves, tree[1]))

@@ -127,3 +127,21 @@ def table_pairs(many, seed=71):
             rows.append((setting, tables[0], draw.choice(tables)))
             rows.append((setting, tables[-1], tables[0]))
     return rows
+
+
+def alike_settings(many, seed):
+    """Settings with codes that send some signs alike."""
+    draw = random.Random(seed)
+    rows = []
+    while len(rows) < many:
+        signs = draw.choice(["01", "012", "012"])
+        bars = Bars(signs, *[draw.choice(texts(signs, 4)[1 + len(signs):]) for _ in range(draw.randint(1, 3))])
+        words = {sign: [sign] + [one + sign for one in signs] for sign in signs}
+        codes = []
+        while len(codes) < draw.randint(2, 5):
+            told = {sign: draw.choice(words[sign]) for sign in signs}
+            unlike = not any(told[one].startswith(told[other]) for one in signs for other in signs if one != other)
+            if unlike and Code(told) not in codes:
+                codes.append(Code(told))
+        rows.append(Setting(bars, Menu(signs, *codes, *[Put(sign) for sign in signs]), None, draw.choice(bars.ends)))
+    return rows

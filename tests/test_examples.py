@@ -190,7 +190,113 @@ FOE = r'''
 raises BadNumber(0)
 '''
 
-ORDER = (BARS, MOVES_MENUS_PRICES, SETTINGS, RULES_CODING, TRAPS, RATES, LEAST, BEST, SIZES, FOE)
+COMPARED = r'''
+>>> from flagfree.compared import Behind, Never, compared, greatest_excess, same_price, same_text
+>>> from flagfree.look_compared import shows_compared
+>>> less = compared(five, table, eager)
+>>> [less.excess, less.content, less.numbers["", ""], bool(compared(five, eager, table)), greatest_excess(five, eager, table, 3)]
+[0, '', 0, False, (2, '110')]
+>>> [shows_compared(five, table, eager, less), shows_compared(five, eager, table, compared(five, eager, table)), shows_compared(five, eager, table, Behind("1", "01")), shows_compared(five, eager, table, Behind("", "11111"))]
+[True, True, True, False]
+>>> [same_price(five, table, eager), same_text(five, table, eager), same_text(five, table, table)]
+['10', '10', None]
+'''
+
+STACKS = r'''
+>>> from flagfree.bars import Bars
+>>> from flagfree.moves import Code, Put
+>>> from flagfree.prices import Rate
+>>> from flagfree.rates import Worst
+>>> from flagfree.rules import Table
+>>> from flagfree.settings import Setting
+>>> from flagfree.stacks import Layer, Stack, shows_stack
+>>> ones = Layer(Setting(Bars("01", "11")), Table({"": Code.plain("01"), "1": Put("0")}))
+>>> zeros = Layer(Setting(Bars("01", "00")), Table({"": Code.plain("01"), "0": Put("1")}))
+>>> both = Stack(ones, zeros)
+>>> [both.coded("11"), both.paid("11"), both.decoded("1011"), both.decoded(""), both.ends_behind("11"), both.ends_behind("10"), len(both), both == Stack(ones) + zeros]
+['1011', 4, '11', '', ('1', ''), ('', '0'), 2, True]
+>>> [str(both.worst().rate), str(both.product()), both.is_matched, both.worst().numbers[("", "")], shows_stack(both, both.worst())]
+['3', '4', True, 0, True]
+>>> [shows_stack(both, Worst(Rate(3), both.worst().numbers, "1", "1")), shows_stack(both, Worst(Rate(5, 2), both.worst().numbers, "1", "01"))]
+[True, False]
+>>> both.decoded("101")
+raises BadSent('101')
+>>> Stack(ones, Layer(Setting(Bars("ab")), Table({"": Code.plain("ab")})))
+raises BadSetting('signs')
+'''
+
+FLAGS = r'''
+>>> from flagfree.flags import Chosen, can_join, cheapest, flags_of, needless, price_range, rate_by_starts, weight_range, without_needless
+>>> wide = Setting(Bars("01", "11", "0000"))
+>>> [needless(wide), without_needless(wide) == Bars("01", "11"), can_join(pair, ["0000", "000", "11"]), str(rate_by_starts(pair)["1"])]
+[('0000',), True, ('0000',), '2']
+>>> [flags_of(pair, 2) == Chosen(("00", "11"), Rate(2)), flags_of(pair, 3) == Chosen(("000", "010", "101", "111"), Rate(3, 2))]
+[True, True]
+>>> cheapest(pair, ["000", "010", "11"], 2) == Chosen(("000", "010"), Rate(2))
+True
+>>> [price_range(Setting(Bars("012", "11")), "2"), weight_range(pair, "0"), weight_range(pair, "1")]
+[(1, 2), (1, 9), (1, 1)]
+>>> price_range(pair, "2")
+raises BadSign('2')
+'''
+
+LOGS = r'''
+>>> from flagfree.logs import Clash, Log, asks, first_clash, guesses, shows_clash, shows_told, sure_moves, told_back, told_tables
+>>> seen = Log(three, ("00", "010"), ("1", "1"))
+>>> [told_back(seen) == Table({"": plain, "0": Put("1")}), len(list(told_tables(seen))), sure_moves(seen)["0"] == Put("1"), guesses(seen, "0010")]
+[True, 1, True, ('010110',)]
+>>> both = seen.with_pair("00", "020")
+>>> [first_clash(both), bool(told_back(both)), shows_clash(both, told_back(both)), first_clash(seen), shows_told(seen, Table({"": plain, "0": Put("1"), "2": plain}))]
+[2, False, True, None, True]
+>>> nothing = (None, None, None, None)
+>>> told_back(Log(three, ("01", "011"), ("1", "2"))) == Clash(("", (("0", nothing), ("0", nothing), None, None)))
+True
+'''
+
+LINKS = r'''
+>>> from flagfree.links import Receiver, Sender
+>>> from flagfree.moves import Code, Put
+>>> from flagfree.rules import Table
+>>> from flagfree.settings import Setting
+>>> line = Setting(Bars("01", "111"))
+>>> table = Table({"": Code.plain("01"), "1": Code.plain("01"), "11": Put("0")})
+>>> sender, receiver = Sender(line, table), Receiver(line, table)
+>>> [sender.send("0111"), sender.end, sender.send("11"), sender.content, sender.sent, sender.price, sender.cost("1"), list(sender)]
+['01101', '1', '101', '011111', '01101101', 8, 1, ['send', 'send']]
+>>> [receiver.hear("0110"), receiver.hear("1101"), receiver.content == sender.content, receiver.end, receiver.undo(), receiver.heard, len(receiver)]
+['011', '111', True, '1', 'hear', '0110', 1]
+>>> receiver.hear("111")
+raises Refused(2)
+>>> Sender(line, Table({"": Code.plain("01"), "1": Code.plain("01"), "11": Code.plain("01")}))
+raises BadLink('table')
+'''
+
+TEXTS = r'''
+>>> from flagfree.reader import read_setting, read_table
+>>> from flagfree.texts import setting_text, table_text
+>>> [setting_text(line).split("\n")[0], read_setting(setting_text(line)) == line, table_text(table).split("\n"), read_table(table_text(table)) == table]
+['bars 01 : 111', True, ['- : code 0 0 1 1', '1 : code 0 0 1 1', '11 : put 0'], True]
+>>> read_setting("bars 01 : 111\nmenu")
+raises BadText(1, 1)
+'''
+
+DESK = r'''
+>>> from flagfree.desk import Desk
+>>> desk = Desk()
+>>> desk.run("bars s 01 : 111111", "best t s", "rate s", "send s t 1111110", "read s t 11111010", "size s 11", "count s", "rounds s")
+['ok', 'ok', '6/5', '11111010', '1111110', '13', '1', 'none']
+>>> [desk("worst s t"), desk("excess s t t"), desk("same s t t"), desk("send s t -"), desk("flags s 2"), desk("show s")]
+['6/5', '0', 'same', '-', '00 11', '01 : 111111 / 01 : code 0 0 1 1 ; put 0 ; put 1 / 01 : 1 1 / 1 1 / -']
+>>> [desk("drop t"), desk("send s t 1"), desk("undo"), len(desk), desk("bars u 01 : 00 11"), desk("best v u"), desk("rounds u"), desk("worst t s"), desk.names]
+['ok', 'lacks t', 'ok', 2, 'ok', 'refused NoWay', '- 2 ; 0 1 ; 1 1', 'lacks t', ('s', 't', 'u')]
+>>> desk("bars s 01 : 11 1")
+raises BadLine(5)
+>>> desk("send s t")
+raises BadLine(3)
+'''
+
+ORDER = (BARS, MOVES_MENUS_PRICES, SETTINGS, RULES_CODING, TRAPS, RATES, LEAST, BEST, SIZES, FOE, COMPARED, STACKS, FLAGS, LOGS,
+         LINKS, TEXTS, DESK)
 
 
 class ExamplesTest(unittest.TestCase):
@@ -217,7 +323,7 @@ class ExamplesTest(unittest.TestCase):
                 elif line.startswith(">>> "):
                     self.check_value(line[len(">>> "):], row, names)
                     many += 1
-        self.assertEqual(many, 50)
+        self.assertEqual(many, 77)
 
 
 if __name__ == "__main__":

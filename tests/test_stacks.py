@@ -67,6 +67,39 @@ def turning_stack(seed, many):
     return Stack(*[turning_layer(draw) for _ in range(many)])
 
 
+def many_tuples():
+    """A stack of which more than 2,000 tuples of ends come."""
+    rows = [
+        ("01 : 000101 100000 100110 110000 110100 110110 111100 / 01 : code 0 100 1 0 ; code 0 0 1 1 ; "
+         "code 0 0 1 10 ; code 0 00 1 111 ; code 0 1 1 0 ; code 0 00 1 11 ; put 0 ; put 1 / 01 : 1 1 / 1 "
+         "1 / -",
+         "- : code 0 0 1 1 ; 0 : code 0 1 1 0 ; 1 : code 0 0 1 1 ; 00 : code 0 0 1 1 ; 10 : code 0 0 1 1 "
+         "; 11 : code 0 0 1 1 ; 000 : code 0 1 1 0 ; 100 : code 0 0 1 1 ; 110 : code 0 0 1 1 ; 111 : code "
+         "0 1 1 0 ; 0001 : code 0 0 1 1 ; 1000 : code 0 1 1 0 ; 1001 : code 0 1 1 0 ; 1100 : code 0 0 1 1 "
+         "; 1101 : code 0 0 1 1 ; 1111 : code 0 1 1 0 ; 00010 : put 0 ; 10000 : put 1 ; 10011 : put 1 ; "
+         "11000 : put 1 ; 11010 : put 1 ; 11011 : put 1 ; 11110 : put 1"),
+        ("01 : 010110 011101 011110 100111 101000 110001 110011 / 01 : code 0 0 1 1 ; code 0 00 1 01 ; "
+         "code 0 0 1 11 ; code 0 10 1 01 ; code 0 1 1 0 ; code 0 11 1 10 ; put 0 ; put 1 / 01 : 1 1 / 1 1 "
+         "/ -",
+         "- : code 0 1 1 0 ; 0 : code 0 11 1 10 ; 1 : code 0 0 1 1 ; 01 : code 0 0 1 11 ; 10 : code 0 0 1 "
+         "1 ; 11 : code 0 0 1 1 ; 010 : code 0 1 1 0 ; 011 : code 0 1 1 0 ; 100 : code 0 1 1 0 ; 101 : "
+         "code 0 0 1 1 ; 110 : code 0 1 1 0 ; 0101 : code 0 1 1 0 ; 0111 : code 0 0 1 1 ; 1001 : code 0 0 "
+         "1 1 ; 1010 : code 0 0 1 11 ; 1100 : code 0 1 1 0 ; 01011 : code 0 11 1 10 ; 01110 : code 0 00 1 "
+         "01 ; 01111 : code 0 11 1 10 ; 10011 : code 0 00 1 01 ; 10100 : code 0 11 1 10 ; 11000 : code 0 "
+         "00 1 01 ; 11001 : code 0 00 1 01"),
+        ("01 : 000000 000011 001100 100101 101010 101110 111000 / 01 : code 0 001 1 10 ; code 0 01 1 11 ; "
+         "code 0 1 1 0 ; code 0 0 1 1 ; code 0 101 1 111 ; code 0 1 1 00 ; put 0 ; put 1 / 01 : 1 1 / 1 1 "
+         "/ -",
+         "- : code 0 1 1 0 ; 0 : code 0 0 1 1 ; 1 : code 0 0 1 1 ; 00 : code 0 01 1 11 ; 10 : code 0 0 1 "
+         "1 ; 11 : code 0 1 1 0 ; 000 : code 0 0 1 1 ; 001 : code 0 0 1 1 ; 100 : code 0 0 1 1 ; 101 : "
+         "code 0 1 1 0 ; 111 : code 0 001 1 10 ; 0000 : code 0 0 1 1 ; 0011 : code 0 1 1 0 ; 1001 : code "
+         "0 1 1 0 ; 1010 : code 0 1 1 00 ; 1011 : code 0 1 1 0 ; 1110 : code 0 01 1 11 ; 00000 : put 1 ; "
+         "00001 : put 0 ; 00110 : code 0 101 1 111 ; 10010 : put 0 ; 10101 : code 0 101 1 111 ; 10111 : "
+         "code 0 101 1 111 ; 11100 : put 1"),
+    ]
+    return Stack(*[Layer(Setting.read(setting), Table.read(table)) for setting, table in rows])
+
+
 def told(stack):
     """The layers as pairs of a setting and the moves of its table."""
     return [(layer.setting, dict(layer.table.moves)) for layer in stack]
@@ -262,6 +295,10 @@ class WorstTest(unittest.TestCase):
         self.assertEqual((Stack(FREE).worst().rate, Stack(FREE).worst().numbers), (Rate(1), {("",): 0}))
 
     def test_too_many_tuples(self):
+        stack = many_tuples()
+        self.assertEqual(len(stack_rows(told(stack))), 2214)
+        refuses(self, TooMany("tuples", 2000), stack.worst)
+        refuses(self, TooMany("tuples", 2000), shows_stack, stack, None)
         self.assertEqual(stacks.MOST_TUPLES, 2000)
         stack = turning_stack(0, 3)
         many = len(stack_rows(told(stack)))
