@@ -1,11 +1,7 @@
-"""Logs: what was seen on a line, and the tables that send it so.
-
-A log is gone through from place to place: a place is a tuple (index of a pair, how many signs of its content and of
-its text are sent, the end behind them).
-"""
+"""Logs: what was seen on a line, and the tables that send it so."""
 
 from flagfree.errors import BadContent, BadLog, BadNumber, BadSetting, TooMany
-from flagfree.moves import Put
+from flagfree.hunts import Hunt, first_place, gone_on
 from flagfree.rules import Table
 from flagfree.settings import Setting
 from flagfree.signs import is_integer, is_text
@@ -77,54 +73,18 @@ def check_log(log):
         raise BadLog("log")
 
 
-def first_place(log):
-    """The place ahead of all pairs."""
-    return (0, 0, 0, log.setting.start)
-
-
-def gone_on(log, told, place):
-    """The place to which fit moves that are told go on from a place, and whether the pairs are sent as they were.
-
-    They go on to the place at which a move is asked for that is not told, or behind all pairs.
-    """
-    at, signs, sent, end = place
-    while at < len(log.pairs):
-        content, text = log.pairs[at]
-        if signs == len(content):
-            if sent != len(text):
-                return (at, signs, sent, end), False
-            at, signs, sent, end = at + 1, 0, 0, log.setting.start
-            continue
-        if end not in told:
-            return (at, signs, sent, end), True
-        move = told[end]
-        word = move.sign if isinstance(move, Put) else move[content[signs]]
-        if not text.startswith(word, sent):
-            return (at, signs, sent, end), False
-        signs = signs if isinstance(move, Put) else signs + 1
-        sent = sent + len(word)
-        end = log.setting.bars.onward(end, word)
-    return (at, signs, sent, end), True
-
-
 def told_tables(log):
     """The tables on just the ends that are asked for, that fit a log, one by one."""
     check_log(log)
+    hunt = Hunt(log)
     many = 0
-    ahead = [({}, first_place(log))]
-    while len(ahead) > 0:
-        told, behind = ahead.pop()
-        place, fits = gone_on(log, told, behind)
-        if not fits:
-            continue
-        if place[0] < len(log.pairs):
-            end = place[3]
-            ahead.extend([({**told, end: move}, place) for move in reversed(list(log.setting.let(end)))])
-            continue
+    told = hunt.next_told()
+    while told is not None:
         if many == MOST_TABLES:
             raise TooMany("tables", MOST_TABLES)
         many = many + 1
         yield Table(told)
+        told = hunt.next_told()
 
 
 def clash_tree(log, told, behind):
@@ -132,12 +92,11 @@ def clash_tree(log, told, behind):
     place, fits = gone_on(log, told, behind)
     if not fits:
         return None
-    end = place[3]
     branches = []
     for move in log.setting.menu:
-        fit = log.setting.is_fit(end, move)
-        branches.append(clash_tree(log, {**told, end: move}, place) if fit else None)
-    return (end, tuple(branches))
+        fit = log.setting.is_fit(place.end, move)
+        branches.append(clash_tree(log, {**told, place.end: move}, place) if fit else None)
+    return (place.end, tuple(branches))
 
 
 def told_back(log):
@@ -150,20 +109,10 @@ def told_back(log):
 def first_clash(log):
     """The least index of a pair such that no table fits the pairs up to it, None if some table fits all."""
     check_log(log)
-    furthest = 0
-    ahead = [({}, first_place(log))]
-    while len(ahead) > 0:
-        told, behind = ahead.pop()
-        place, fits = gone_on(log, told, behind)
-        if fits and place[0] == len(log.pairs):
-            return None
-        if fits:
-            end = place[3]
-            ahead.extend([({**told, end: move}, place) for move in reversed(list(log.setting.let(end)))])
-        # All pairs ahead of this one are sent as they were with the moves that are told.
-        if place[0] > furthest:
-            furthest = place[0]
-    return furthest
+    hunt = Hunt(log)
+    if hunt.next_told() is not None:
+        return None
+    return hunt.furthest
 
 
 def sure_moves(log):
@@ -234,7 +183,7 @@ def shows_told(log, value):
     setting = log.setting
     told = {end: value[end] for end in setting.bars.ends if fit_move(setting, value, end) is not None}
     place, fits = gone_on(log, told, first_place(log))
-    return fits and place[0] == len(log.pairs)
+    return fits and place.at == len(log.pairs)
 
 
 def is_clash_tree(log, told, behind, tree):
@@ -242,10 +191,10 @@ def is_clash_tree(log, told, behind, tree):
     place, fits = gone_on(log, told, behind)
     if not fits:
         return tree is None
-    if place[0] == len(log.pairs) or not isinstance(tree, tuple) or len(tree) != 2:
+    if place.at == len(log.pairs) or not isinstance(tree, tuple) or len(tree) != 2:
         return False
     end, branches = tree
-    if not isinstance(end, str) or end != place[3]:
+    if not isinstance(end, str) or end != place.end:
         return False
     moves = log.setting.menu.moves
     if not isinstance(branches, tuple) or len(branches) != len(moves):

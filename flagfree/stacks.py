@@ -179,7 +179,9 @@ def shows_stack(stack, value):
     if not isinstance(stack, Stack):
         raise BadLayer("stack")
     graph = stack_graph(stack)
-    if not isinstance(value, Worst) or not isinstance(value.rate, Rate) or not are_kept(graph, value.rate, value.numbers):
+    if not isinstance(value, Worst) or not isinstance(value.rate, Rate):
+        return False
+    if not are_kept(graph, value.rate, value.numbers):
         return False
     setting = stack.layers[0].setting
     signs = setting.bars.signs

@@ -52,6 +52,13 @@ def wide_log(many):
     return Log(setting, ("0" * many, "0" * many))
 
 
+def widest_log(*pairs):
+    """A log that far too many tables fit to go through them, and some more pairs."""
+    codes = [Code(dict(zip("012", row))) for row in (("0", "1", "2"), ("0", "2", "1"), ("2", "1", "0"), ("1", "0", "2"))]
+    setting = Setting(Bars("012", "0" * 8, "1" * 8, "2" * 8), Menu("012", *codes, *[Put(sign) for sign in "012"]))
+    return Log(setting, *[(sign * 7, sign * 7) for sign in "012"], *pairs)
+
+
 class LogTest(unittest.TestCase):
 
     def test_attributes(self):
@@ -215,6 +222,15 @@ class ToldBackTest(unittest.TestCase):
         self.assertIsNone(first_clash(wide_log(6)))
         self.assertEqual(first_clash(wide_log(5).with_pair("", "0")), 1)
         self.assertEqual(first_clash(Log(THREE, ("0", "0"), ("0", "1"), ("", "0"))), 1)
+
+    def test_more_tables_than_can_be_gone_through(self):
+        self.assertEqual([first_clash(widest_log()), len(told_back(widest_log()))], [None, 19])
+        for pairs, at in (((("", "0"),), 3), ((("0", ""),), 3), ((("0", "0"), ("", ""), ("", "1")), 5),
+                          ((("00", "00"), ("1", "1"), ("0", "22")), 5), ((("0", "12"), ("1", "1")), 3)):
+            log = widest_log(*pairs)
+            self.assertEqual(first_clash(log), at)
+            self.assertEqual((list(told_tables(log)), sure_moves(log), guesses(log, "0"), asks(log, 3)),
+                             ([], {}, (), None))
 
     def test_errors(self):
         for value in others(lambda value: isinstance(value, Log)):
