@@ -54,15 +54,13 @@ def check_words(setting, words):
 
 def needless(setting):
     """The words without which, each taken out alone, the rate stays the same."""
-    check_setting(setting)
-    bars = setting.bars
     rate = least_rate(setting)
+    bars = setting.bars
     return tuple([word for word in bars.words if rate_with(setting, bars - Bars(bars.signs, word)) == rate])
 
 
 def without_needless(setting):
     """The Bars that are left when each word is taken out, one after another, without which the rate stays the same."""
-    check_setting(setting)
     rate = least_rate(setting)
     left = setting.bars
     for word in setting.bars.words:

@@ -92,7 +92,7 @@ class Hunt:
             place, fits = gone_on(self.log, told, behind)
             if place.at > self.furthest:
                 self.furthest = place.at
-            if fits and place.at == len(self.log.pairs):
+            if place.at == len(self.log.pairs):
                 self._turn(told)
                 return told
             if fits:

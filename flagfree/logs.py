@@ -48,7 +48,7 @@ class Log:
         return iter(self.pairs)
 
     def __contains__(self, pair):
-        return is_pair(pair, self.setting.bars.signs) and pair in self.pairs
+        return pair in self.pairs
 
     def __getitem__(self, at):
         return self.pairs[at]
@@ -182,8 +182,8 @@ def shows_told(log, value):
         return False
     setting = log.setting
     told = {end: value[end] for end in setting.bars.ends if fit_move(setting, value, end) is not None}
-    place, fits = gone_on(log, told, first_place(log))
-    return fits and place.at == len(log.pairs)
+    place, _ = gone_on(log, told, first_place(log))
+    return place.at == len(log.pairs)
 
 
 def is_clash_tree(log, told, behind, tree):
@@ -194,10 +194,8 @@ def is_clash_tree(log, told, behind, tree):
     if place.at == len(log.pairs) or not isinstance(tree, tuple) or len(tree) != 2:
         return False
     end, branches = tree
-    if not isinstance(end, str) or end != place.end:
-        return False
     moves = log.setting.menu.moves
-    if not isinstance(branches, tuple) or len(branches) != len(moves):
+    if end != place.end or not isinstance(branches, tuple) or len(branches) != len(moves):
         return False
     for move, branch in zip(moves, branches):
         if not log.setting.is_fit(end, move):

@@ -636,6 +636,32 @@ class TwinTest(unittest.TestCase):
         self.assertEqual([twin.hear("0"), amid.hear("1"), twin == amid], ["0", "1", False])
         self.assertFalse(Receiver(setting, whole) == amid)
 
+    def test_the_same_sent_for_other_contents(self):
+        turn = Code({"0": "1", "1": "0"})
+        setting = Setting(Bars("01"), Menu("01", PLAIN, turn, Put("1")))
+        one, two = Sender(setting, Table({"": turn})), Sender(setting, Table({"": PLAIN}))
+        one.send("01")
+        two.send("10")
+        one.use(Table({"": PLAIN}))
+        self.assertEqual((one.sent, one.end, one.price, one.way), (two.sent, two.end, two.price, two.way))
+        self.assertFalse(one == two)
+        heard = Receiver(setting, Table({"": turn})), Receiver(setting, Table({"": PLAIN}))
+        for receiver in heard:
+            receiver.hear("10")
+            receiver.use(Table({"": PLAIN}))
+        self.assertFalse(heard[0] == heard[1])
+
+    def test_the_same_heard_to_other_ends(self):
+        long = Code({"0": "10", "1": "11"})
+        setting = Setting(Bars("01", "000", "111"), Menu("01", PLAIN, long, Put("0"), Put("1")))
+        told = Table({"": long, "1": Put("0"), "11": Put("0"), "0": PLAIN, "00": Put("1")})
+        one, two = Receiver(setting, told), Receiver(setting, told.with_move("", Put("1")))
+        one.hear("1")
+        two.hear("1")
+        two.use(told)
+        self.assertEqual((one.heard, one.content, one.way), (two.heard, two.content, two.way))
+        self.assertEqual((one.end, two.end, one == two), ("", "1", False))
+
     def test_what_was_sent_otherwise(self):
         three = Setting(Bars("012", "00"))
         plain = Code.plain("012")

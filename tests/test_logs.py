@@ -414,6 +414,7 @@ class ShowsTest(unittest.TestCase):
         for tree in (None, ("", (None,) * 4), ("", (("0", NOTHING), ("0", NOTHING), None, None))):
             self.assertIs(shows_clash(SEEN, Clash(tree)), False)
         self.assertIs(shows_clash(Log(THREE), Clash(None)), False)
+        self.assertIs(shows_clash(Log(THREE.with_menu(Menu("012"))), Clash(("", ()))), False)
 
     def test_deep_trees(self):
         # 24 ends, at each of which only the plain code goes on: the tree is as deep.
