@@ -90,8 +90,8 @@ class ComparedTest(unittest.TestCase):
         self.assertEqual(compared(setting, one, other), Never(2, numbers, "110"))
         self.assertEqual([greatest_excess(setting, one, other, n) for n in (2, 3, 4)],
                          [(1, "10"), (2, "110"), (2, "1100")])
-        setting = Setting.read("01 : 00110 10011 / 01 : code 0 0 1 1 ; code 0 01 1 1 ; code 0 11 1 01 ; put 0 ; put 1 / "
-                               "01 : 2 5 / 8 4 / 1001")
+        setting = Setting.read("01 : 00110 10011 / 01 : code 0 0 1 1 ; code 0 01 1 1 ; code 0 11 1 01 ; put 0 ; "
+                               "put 1 / 01 : 2 5 / 8 4 / 1001")
         one = Table.read("- : put 1 ; 0 : code 0 0 1 1 ; 1 : code 0 11 1 01 ; 00 : code 0 01 1 1 ; 10 : code 0 0 1 1 ; "
                          "001 : code 0 0 1 1 ; 100 : code 0 01 1 1 ; 0011 : put 1 ; 1001 : put 0")
         other = Table.read("- : code 0 11 1 01 ; 0 : put 0 ; 1 : code 0 11 1 01 ; 00 : code 0 0 1 1 ; "

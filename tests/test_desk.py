@@ -139,9 +139,11 @@ class LineTest(unittest.TestCase):
         self.assertGreater(len(many), 80)
 
     def test_by_hand(self):
-        for line, word in (("", 0), ("rates s", 0), ("bars s 01 : 11 1", 5), ("send s t", 3), ("undo ", 1), (" undo", 0),
+        for line, word in (("", 0), ("rates s", 0), ("bars s 01 : 11 1", 5), ("send s t", 3), ("undo ", 1),
+                           (" undo", 0),
                            ("undo undo", 1), ("drop", 1), ("drop s t", 2), ("show S", 1), ("show abcdefgh1", 1),
-                           ("show abcdefghi", 1), ("size s 007", 2), ("size s 00", 2), ("size s -1", 2), ("size s x", 2),
+                           ("show abcdefghi", 1), ("size s 007", 2), ("size s 00", 2), ("size s -1", 2),
+                           ("size s x", 2),
                            ("size s " + "9" * 31, 2), ("at t", 2), ("at t - put", 4), ("at t - put 0 1", 5),
                            ("send s t 01A", 3), ("send s t --", 3), ("rate s\n", 1), ("rate\n", 0), ("rate s \n", 2),
                            ("table t table table", 3), ("table t", 2), ("setting s 01 : 11 /", 6), ("bars s", 2),
@@ -252,7 +254,8 @@ class AnswerTest(unittest.TestCase):
                                   "count b", "best t b", "flags b 1", "flags s 2", "flags s 7", "flags s 9"),
                          ["11 1", "none", "- 2 ; 0 1 ; 1 1", "none", "none", "none", "refused NoWay", "refused NoWay",
                           "none", "00 11", "refused TooMany", "refused BadNumber"])
-        self.assertEqual(desk.run("size s " + "9" * 30, "size s 0", "rate s", "worst s t", "excess s t t", "same s t t"),
+        self.assertEqual(desk.run("size s " + "9" * 30, "size s 0", "rate s", "worst s t", "excess s t t",
+                                  "same s t t"),
                          [str(10 ** 30 - 1 + (10 ** 30 - 2) // 5), "0", "6/5", "6/5", "0", "same"])
 
     def test_a_size_without_a_round(self):
@@ -288,8 +291,8 @@ class ChangeTest(unittest.TestCase):
         table = Table({"": PLAIN, "0": Put("z")})
         self.assertEqual(desk.say(f"table t {table}"), "ok")
         self.assertTrue(same(desk.table_of("t"), table))
-        self.assertEqual([desk("start s 11"), desk.setting_of("s").start, desk("start s -"), desk.setting_of("s").start],
-                         ["ok", "11", "ok", ""])
+        for line, start in (("start s 11", "11"), ("start s -", "")):
+            self.assertEqual([desk(line), desk.setting_of("s").start], ["ok", start])
         self.assertEqual([desk("at t 1 code 0 00 1 1"), desk.table_of("t")["1"]], ["ok", Code({"0": "00", "1": "1"})])
         self.assertEqual([desk("at t - put 1"), desk.table_of("t")[""]], ["ok", Put("1")])
         self.assertEqual([desk("best t s"), desk.table_of("t")], ["ok", first_best(Setting(Bars("01", "111")))])
@@ -374,7 +377,7 @@ class RunTest(unittest.TestCase):
     def test_answers(self):
         desk = Desk()
         self.assertEqual(desk.run(), [])
-        answers = desk.run("undo", "bars s 01 : 11", "lack s"[:0] + "show q", "rate s", "undo", "rate s")
+        answers = desk.run("undo", "bars s 01 : 11", "show q", "rate s", "undo", "rate s")
         self.assertEqual(answers, ["nothing", "ok", "lacks q", "2", "ok", "lacks s"])
         answers.append("ok")
         self.assertEqual(desk.run("undo"), ["nothing"])

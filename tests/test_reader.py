@@ -200,7 +200,8 @@ class ReadTableTest(unittest.TestCase):
                 check(self, read_table, near, wrong_table(near), table_text)
 
     def test_by_hand(self):
-        for text, wrong in (("\n", (0, 0)), ("- : put 0\n", (1, 0)), ("-", (0, 1)), ("- :", (0, 2)), ("- : put", (0, 3)),
+        for text, wrong in (("\n", (0, 0)), ("- : put 0\n", (1, 0)), ("-", (0, 1)), ("- :", (0, 2)),
+                            ("- : put", (0, 3)),
                             ("- : put 0 ;", (0, 4)), ("1 : put 0\n0 : put 1", (1, 0)), ("1 : put 0\n- : put 1", (1, 0)),
                             ("1 : put 0\n1 : put 1", (1, 0)), ("- : put 0\n- : put 1", (1, 0)), ("table", (0, 1)),
                             ("00000000 : put 0", (0, 0)), ("1 : put 0\n00 : put 0", (1, 0)),
