@@ -139,8 +139,8 @@ class Station:
         return self._table
 
     @way.setter
-    def way(self, table):
-        self.use(table)
+    def way(self, value):
+        self.use(value)
 
     def use(self, table):
         """Use a table from now on."""
