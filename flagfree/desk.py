@@ -195,7 +195,8 @@ ANSWERS = {"show": shown, "send": sent_for, "read": content_of, "rate": rate_of,
 
 def refused(error):
     """The answer to a line for which an error was raised."""
-    return f"refused {error.__class__.__name__}"
+    name = error.__class__.__name__
+    return f"refused {name}"
 
 
 class Desk:
